@@ -1,0 +1,1 @@
+"""What is seen, what is the same, and what would be seen after a deed."""

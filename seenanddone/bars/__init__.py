@@ -1,0 +1,1 @@
+"""What bars two lots, and what shows that nothing does."""

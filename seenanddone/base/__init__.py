@@ -1,0 +1,1 @@
+"""Fractions, names and lots."""

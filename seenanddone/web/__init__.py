@@ -1,0 +1,1 @@
+"""Diagrams and trails."""

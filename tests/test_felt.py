@@ -105,6 +105,15 @@ class JointsTest(unittest.TestCase):
         met = ("a", ">", "b", "-", "c", ">", "d")
         self.assertEqual(joints_of(diagram, met, {"b": ("b", "d")}), ((("a", "b"), ("b", "d"), ("c", "d")), (("b", "c"),)))
 
+    def test_long_ways(self):
+        diagram = Diagram(("a", "b", "c", "d", "e", "f"), (
+            ("a", "b"), ("b", "d"), ("c", "b"), ("d", "e"), ("e", "f")), (("a", "c"),))
+        trail = ("a", ">", "b", "<", "c")
+        for size in (1, 2, 3, 4):
+            way = ("b", "d", "e", "f")[:size]
+            arrows = tuple(sorted({("a", "b"), ("c", "b")} | set(zip(way, way[1:]))))
+            self.assertEqual(joints_of(diagram, trail, {"b": way}), (arrows, ()))
+
     def test_errors(self):
         diagram = Diagram(("a", "b", "c", "d"), (("a", "b"), ("b", "d"), ("c", "b")))
         trail = ("a", ">", "b", "<", "c")
@@ -131,9 +140,9 @@ class ShareTest(unittest.TestCase):
             self.assertEqual(Fraction(*world.seen.share_given({last: told}, seen)), expected)
 
     def test_share(self):
-        for diagram in list(small_diagrams())[::2] + [BIND, DIAMOND]:
+        for diagram in list(small_diagrams()) + [BIND, DIAMOND]:
             for x, y, z in all_sayings(diagram.things):
-                for trail, ways in plain_open_trails(diagram, x, y, z, 4):
+                for trail, ways in plain_open_trails(diagram, x, y, z):
                     self.check_share(diagram, x, y, z, trail, ways)
 
     def test_share_of_four_and_five(self):

@@ -199,6 +199,38 @@ class LightestTest(unittest.TestCase):
                     cheapest = min(sum(prices[thing] for thing in lot) for lot in within)
                     self.assertEqual(sum(prices[thing] for thing in lightest(diagram, (a,), (b,), prices)[0]), cheapest)
 
+    def test_roads_that_hinder_one_another(self):
+        """A road that has two things of the lightest lot may get nothing, or too little is left for others."""
+        for b, c, d, e in itertools.permutations("bcde"):
+            arrows = (("a", b), ("a", c), (b, d), (b, e), (c, d), (d, "f"), (e, "f"))
+            diagram = Diagram(("a", "b", "c", "d", "e", "f"), tuple(sorted(arrows)))
+            for costs in itertools.product((1, 2, 10), repeat=4):
+                prices = dict(zip((b, c, d, e), costs))
+                found = lightest(diagram, ("a",), ("f",), prices)
+                self.assertIs(is_lightest(diagram, ("a",), ("f",), prices, found), True)
+                bars = [lot for lot in lots_within("bcde") if is_barred(diagram, ("a",), ("f",), lot)]
+                least = min(sum(prices[thing] for thing in lot) for lot in bars)
+                self.assertEqual(sum(prices[thing] for thing in found[0]), least)
+                self.assertEqual(sum(amount for amount, _ in found[1]), least)
+
+    def test_roads_with_things_twice(self):
+        """A road has different things, and only its ends in x or y."""
+        diagram = Diagram(("a", "b", "c", "d"), (("a", "b"), ("b", "c"), ("b", "d"), ("c", "d")))
+        for value, good in ((("a", "b", "d"), True), (("a", "b", "c", "d"), True), (("a", "b", "c", "b", "d"), False),
+                            (("a", "b", "a", "b", "d"), False), (("a", "b", "d", "c", "d"), False)):
+            self.assertIs(is_free_road(diagram, ("a",), ("d",), {}, value), good)
+            self.assertIs(is_lightest(diagram, ("a",), ("d",), {"b": 2}, (("b",), ((2, value),))), good)
+        for value, good in ((("a", "b", "c"), True), (("a", "b", "d"), True), (("a", "b", "c", "d"), False), (("a", "b", "d", "c"), False)):
+            self.assertIs(is_free_road(diagram, ("a",), ("c", "d"), {}, value), good)
+        for value, good in ((("b", "c", "d"), True), (("a", "b", "d"), False), (("a", "b", "c", "d"), False)):
+            self.assertIs(is_free_road(diagram, ("a", "b"), ("d",), {}, value), good)
+
+    def test_all_that_must_be_taken_is_in_the_lot(self):
+        loose = Diagram(("a", "b", "c"))
+        self.assertEqual(lightest(loose, ("a",), ("c",), {}, must=("b",)), (("b",), ()))
+        for value, good in (((("b",), ()), True), (((), ()), False)):
+            self.assertIs(is_lightest(loose, ("a",), ("c",), {}, value, must=("b",)), good)
+
     def test_values_near_a_lightest_one(self):
         prices = {"b": 3, "c": 2}
         good = (("b", "c"), ((2, ("a", "c", "d")), (3, ("a", "b", "d"))))

@@ -138,6 +138,11 @@ class WorldTest(unittest.TestCase):
             self.assertIs(one == other, one is other)
             self.assertIs(one != other, one is not other)
         self.assertEqual(some_world(FRONT, 3), some_world(FRONT, 3))
+        # The same tables in another diagram.
+        half = ((1, 2), (1, 2))
+        tables = {"a": {(): half}, "b": {(): half}, "c": {(0,): half, (1,): ((1, 3), (2, 3))}}
+        one, other = (World(Diagram(("a", "b", "c"), ((cause, "c"),)), {"a": 2, "b": 2, "c": 2}, {}, tables) for cause in "ab")
+        self.assertIs(one == other, False)
         # Bows that nothing heeds leave the seen table as it is, but make another world.
         even, bowed = even_world(LOOSE), even_world(Diagram(("a", "b"), (), (("a", "b"),)))
         self.assertEqual(even.seen, bowed.seen)

@@ -4,7 +4,7 @@ from seenanddone.base.numbers import ONE
 from seenanddone.bars.barred import open_trail
 from seenanddone.errors import InvalidOperation, TooMany
 from seenanddone.web.checks import need_diagram, need_saying
-from seenanddone.web.trails import is_trail, is_way, meeting
+from seenanddone.web.trails import is_way, meeting
 from seenanddone.world.worlds import MAX_HIDDEN, World, bows_at
 
 _MOST_BOWS = 8
@@ -55,9 +55,7 @@ def _noisy_sum(row, heeded):
 
 def joints_of(diagram, trail, ways):
     """The pair of the arrows and of the bows that a trail and the arrows of some ways have."""
-    need_diagram(diagram)
-    if not is_trail(diagram, trail):
-        raise InvalidOperation("no trail of the diagram")
+    # The errors of the diagram and of the trail are those of what meets.
     if not _are_ways(diagram, ways, meeting(diagram, trail)):
         raise InvalidOperation("no ways from things that meet on the trail")
     arrows = [(way[index], way[index + 1]) for way in list(ways.values()) for index in range(len(way) - 1)]

@@ -45,9 +45,7 @@ def is_lot_of(value, names):
 
 def are_shares(value):
     """Whether the value is a tuple of one or more fractions of at least 0 with the sum 1."""
-    if not isinstance(value, tuple) or len(value) == 0:
-        return False
-    if not all([is_fraction(part) and part[0] >= 0 for part in value]):
+    if not isinstance(value, tuple) or not all([is_fraction(part) and part[0] >= 0 for part in value]):
         return False
     return _sum_of(value) == ONE
 

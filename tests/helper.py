@@ -1,8 +1,10 @@
 """What several tests need: the diagrams of the document, many other ones, and plain looks at all trails."""
 import itertools
 import random
+from fractions import Fraction
 
 from seenanddone.web.diagrams import Diagram
+from seenanddone.world.tables import Table
 from seenanddone.world.worlds import World, even_world
 
 FORK = Diagram(("a", "b", "c"), (("b", "a"), ("b", "c")))
@@ -196,3 +198,84 @@ def check_errors(test, call, good, wrong, keywords=None):
                 with test.assertRaises(error, msg=(spot, later, str(value)[:60])) as caught:
                     call(*args, **named)
                 test.assertIs(type(caught.exception), error, (spot, later, str(value)[:60]))
+
+
+def bowless_diagrams(things):
+    """Every diagram of these things without bows."""
+    pairs = list(itertools.combinations(things, 2))
+    for turns in itertools.product((None, 0, 1), repeat=len(pairs)):
+        arrows = tuple(sorted((a, b) if turn == 0 else (b, a) for (a, b), turn in zip(pairs, turns) if turn is not None))
+        if not has_ring(things, arrows):
+            yield Diagram(things, arrows)
+
+
+def all_effects(things):
+    """Every pair of lots x and y that do not meet, y not empty."""
+    for places in itertools.product(range(3), repeat=len(things)):
+        x, y = (tuple(t for t, place in zip(things, places) if place == at) for at in (1, 2))
+        if y:
+            yield x, y
+
+
+def some_effects(things, many, seed):
+    """So many of these pairs, or all if there are fewer."""
+    every = list(all_effects(things))
+    return every if len(every) <= many else random.Random(seed).sample(every, many)
+
+
+def some_table(seed, sizes, least=1, most=9):
+    """A table with any shares."""
+    draw = random.Random(seed)
+    rows = rows_of([sizes[thing] for thing in sorted(sizes)])
+    tops = [draw.randint(least, most) for _ in rows]
+    tops[0] += 1
+    return Table(sizes, {row: lowest(top, sum(tops)) for row, top in zip(rows, tops)})
+
+
+def as_fractions(table):
+    return {row: Fraction(*share) for row, share in table.shares.items()}
+
+
+def plain_sums(shares, things, lot):
+    """The sums of shares of rows of some things over all that are not in a lot."""
+    spots = [things.index(thing) for thing in lot]
+    found = {}
+    for row, share in shares.items():
+        part = tuple(row[spot] for spot in spots)
+        found[part] = found.get(part, 0) + share
+    return found
+
+
+def plain_done(world, deed):
+    """The shares of all rows behind a deed, as [12.1] has them."""
+    diagram, sizes, hidden, tables = world.diagram, world.sizes, world.hidden, world.tables
+    bows, things = diagram.bows, diagram.things
+    reads = {t: [a for a, b in diagram.arrows if b == t] + [bow for bow in bows if t in bow] for t in things}
+    found = {}
+    for row in rows_of([sizes[thing] for thing in things]):
+        worth = dict(zip(things, row))
+        found[row] = Fraction(0)
+        if any(worth[thing] != value for thing, value in deed.items()):
+            continue
+        for drawn in rows_of([len(hidden[bow]) for bow in bows]):
+            held = {**worth, **dict(zip(bows, drawn))}
+            share = Fraction(1)
+            for bow in bows:
+                share *= Fraction(*hidden[bow][held[bow]])
+            for thing in things:
+                if thing not in deed:
+                    share *= Fraction(*tables[thing][tuple(held[read] for read in reads[thing])][worth[thing]])
+            found[row] += share
+    return found
+
+
+def all_deeds(sizes, lot):
+    return [dict(zip(lot, row)) for row in rows_of([sizes[thing] for thing in lot])]
+
+
+def check_judge(test, judge, right, wrong):
+    """A judge takes each right value and no wrong one, and none of many other ones."""
+    for value in right:
+        test.assertIs(judge(value), True, str(value)[:200])
+    for value in list(wrong) + list(ODDER):
+        test.assertIs(judge(value), False, str(value)[:200])

@@ -57,42 +57,44 @@ def open_trail(diagram, x, y, z):
     """An open trail, with its ways, that shows that z does not bar x and y, or None."""
     if is_barred(diagram, x, y, z):
         return None
-    inner = tuple([thing for thing in diagram.things if thing not in x and thing not in y])
-    for start in x:
-        for end in y:
-            for trail in trails_between(diagram, start, end, inner):
-                ways = _ways_of(diagram, trail, z)
-                if ways is not None:
-                    return (trail, {thing: ways[thing] for thing in sorted(ways)})
+    return open_trail_past(diagram, x, y, z, ())
+
+
+def open_trail_past(diagram, x, y, z, past):
+    """An open trail whose ways have no thing of one more lot but where they begin, or None."""
+    for trail in trails_from(diagram, x, y):
+        if is_open(diagram, trail, z):
+            ways = ways_apart(diagram, meeting(diagram, trail), z, trail[::2] + past)
+            if ways is not None:
+                return (trail, {thing: ways[thing] for thing in sorted(ways)})
     return None
 
 
-def _ways_of(diagram, trail, z):
-    """The ways, apart, that make a trail an open one, or None."""
-    if not is_open(diagram, trail, z):
-        return None
-    return _ways_apart(diagram, meeting(diagram, trail), z, trail[::2])
+def trails_from(diagram, x, y):
+    """The list of all trails from a thing of x to a thing of y without inner things of these."""
+    inner = tuple([thing for thing in diagram.things if thing not in x and thing not in y])
+    return [trail for start in x for end in y for trail in trails_between(diagram, start, end, inner)]
 
 
-def _ways_apart(diagram, starts, z, taken):
+def ways_apart(diagram, starts, z, taken):
     """A dict from the starts to ways into z that are apart, and have no taken thing but their starts, or None."""
     if len(starts) == 0:
         return {}
-    for way in _ways_into(diagram, (starts[0],), z, taken):
-        rest = _ways_apart(diagram, starts[1:], z, taken + way)
+    for way in ways_into(diagram, (starts[0],), z, taken):
+        rest = ways_apart(diagram, starts[1:], z, taken + way)
         if rest is not None:
             return {starts[0]: way, **rest}
     return None
 
 
-def _ways_into(diagram, begun, z, taken):
+def ways_into(diagram, begun, z, taken):
     """The list of all ways with this beginning that end at their first thing of z, by things not taken."""
     if begun[-1] in z:
         return [begun]
     found = []
     for thing in diagram.children(begun[-1]):
         if thing not in taken:
-            found.extend(_ways_into(diagram, begun + (thing,), z, taken))
+            found.extend(ways_into(diagram, begun + (thing,), z, taken))
     return found
 
 

@@ -35,7 +35,8 @@ def nearest(diagram, a, b):
     return None
 
 
-def _need_priced(diagram, x, y, prices, must):
+def need_priced(diagram, x, y, prices, must):
+    """Raise unless they are a diagram, two lots of its things, prices of others, and a lot without a price."""
     need_diagram(diagram)
     need_lots(x, y, (), diagram.things)
     if not isinstance(prices, dict):
@@ -86,7 +87,7 @@ def _price_of(lot, prices):
 
 def lightest(diagram, x, y, prices, *, must=()):
     """A lightest lot that bars x and y with the roads that pay for it, or None if no let lot bars them."""
-    _need_priced(diagram, x, y, prices, must)
+    need_priced(diagram, x, y, prices, must)
     roads = _roads_of(_web_of(diagram, x, y, must), x, y)
     priced = tuple(sorted(prices))
     cuts = []
@@ -121,7 +122,7 @@ def _paying(roads, cuts, prices):
 
 def is_lightest(diagram, x, y, prices, value, *, must=()):
     """Whether the value is a lightest lot that bars x and y with roads that pay for it."""
-    _need_priced(diagram, x, y, prices, must)
+    need_priced(diagram, x, y, prices, must)
     if not isinstance(value, tuple) or len(value) != 2:
         return False
     lot, roads = value
@@ -151,7 +152,7 @@ def _do_pay(web, x, y, prices, lot, value):
 
 def free_road(diagram, x, y, prices, *, must=()):
     """A road from x to y without a thing of must and without a thing with a price, or None."""
-    _need_priced(diagram, x, y, prices, must)
+    need_priced(diagram, x, y, prices, must)
     for road in _roads_of(_web_of(diagram, x, y, must), x, y):
         if not any([thing in prices for thing in road]):
             return road
@@ -160,7 +161,7 @@ def free_road(diagram, x, y, prices, *, must=()):
 
 def is_free_road(diagram, x, y, prices, value, *, must=()):
     """Whether the value is a road from x to y without a thing of must and without a thing with a price."""
-    _need_priced(diagram, x, y, prices, must)
+    need_priced(diagram, x, y, prices, must)
     if not _is_road(_web_of(diagram, x, y, must), x, y, value):
         return False
     return not any([thing in prices for thing in value])

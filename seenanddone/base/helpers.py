@@ -36,6 +36,31 @@ def lowest(top, bottom):
     return (top // shared, bottom // shared)
 
 
+def lcm_of(numbers):
+    """The least common multiple of some integers of at least 1."""
+    result = 1
+    for number in numbers:
+        result = lcm(result, number)
+    return result
+
+
+def sum_of(fractions):
+    """The sum of some fractions."""
+    # Two by two, so that few sums have long bottoms; lowest terms are looked for once, at the end.
+    parts = [(0, 1)] + list(fractions)
+    while len(parts) > 1:
+        added = [_added(parts[index], parts[index + 1]) for index in range(0, len(parts) - 1, 2)]
+        parts = added + parts[2 * len(added):]
+    return lowest(parts[0][0], parts[0][1])
+
+
+def _added(one, other):
+    """A top and a bottom, perhaps not in lowest terms, of the sum of two fractions."""
+    more = other[1] // gcd(one[1], other[1])
+    bottom = one[1] * more
+    return (one[0] * more + other[0] * (bottom // other[1]), bottom)
+
+
 def common_bottom(fractions, most=None):
     """The least common multiple of the bottoms, or None if it is above the most or has more than 1000 digits."""
     bottom = 1
@@ -53,6 +78,32 @@ def product_of(numbers):
     for number in numbers:
         result = result * number
     return result
+
+
+def pairs_of(values):
+    """The list of all pairs of some values, the one that stands ahead first."""
+    return [(values[index], other) for index in range(len(values)) for other in values[index + 1:]]
+
+
+def parts_of(values, size):
+    """The list of all tuples of so many of some values, as they stand."""
+    if size == 0:
+        return [()]
+    found = []
+    for index in range(len(values)):
+        for rest in parts_of(values[index + 1:], size - 1):
+            found.append((values[index],) + rest)
+    return found
+
+
+def places_in(whole, part):
+    """The list of the places that the members of a part have in the whole."""
+    return [whole.index(member) for member in part]
+
+
+def picked(row, places):
+    """The tuple of what stands at some places of a row."""
+    return tuple([row[place] for place in places])
 
 
 def rows_of(counts):

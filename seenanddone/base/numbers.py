@@ -1,7 +1,7 @@
 """Fractions, names and lots."""
 from math import gcd
 
-from seenanddone.base.helpers import is_ascending, is_whole, is_whole_within, lot_of, lowest
+from seenanddone.base.helpers import is_ascending, is_whole, is_whole_within, lot_of, lowest, parts_of, sum_of
 from seenanddone.errors import InvalidFraction, InvalidLot, InvalidNumber, InvalidOperation, ParseError, Refused
 
 ZERO = (0, 1)
@@ -47,7 +47,7 @@ def are_shares(value):
     """Whether the value is a tuple of one or more fractions of at least 0 with the sum 1."""
     if not isinstance(value, tuple) or not all([is_fraction(part) and part[0] >= 0 for part in value]):
         return False
-    return _sum_of(value) == ONE
+    return sum_of(value) == ONE
 
 
 def fraction(top, bottom=1):
@@ -69,24 +69,16 @@ def _need_fractions(one, other):
     _need_fraction(other)
 
 
-def _sum_of(fractions):
-    top = 0
-    bottom = 1
-    for part in fractions:
-        top, bottom = lowest(top * part[1] + part[0] * bottom, bottom * part[1])
-    return (top, bottom)
-
-
 def plus(one, other):
     """The sum of two fractions."""
     _need_fractions(one, other)
-    return _sum_of((one, other))
+    return sum_of((one, other))
 
 
 def minus(one, other):
     """The first fraction less the second one."""
     _need_fractions(one, other)
-    return _sum_of((one, (-other[0], other[1])))
+    return sum_of((one, (-other[0], other[1])))
 
 
 def times(one, other):
@@ -115,7 +107,7 @@ def total(fractions):
         raise InvalidOperation("no tuple of at most 256 fractions")
     if not all([is_fraction(part) for part in fractions]):
         raise InvalidOperation("the tuple has more than fractions")
-    return _sum_of(fractions)
+    return sum_of(fractions)
 
 
 def power(base, count):
@@ -162,19 +154,8 @@ def lots_of(lot, most=None):
         raise InvalidNumber(most)
     longest = len(lot) if most is None else min(len(lot), most)
     for size in range(longest + 1):
-        for part in _parts_of(lot, size):
+        for part in parts_of(lot, size):
             yield part
-
-
-def _parts_of(lot, size):
-    """The list of all lots of one size within a lot, in Python's order."""
-    if size == 0:
-        return [()]
-    found = []
-    for index in range(len(lot)):
-        for rest in _parts_of(lot[index + 1:], size - 1):
-            found.append((lot[index],) + rest)
-    return found
 
 
 def fraction_text(value):

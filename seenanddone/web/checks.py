@@ -1,6 +1,6 @@
 """The errors that these parameters have everywhere."""
 from seenanddone.base.numbers import is_lot_of
-from seenanddone.errors import InvalidDiagram, InvalidLot, UnknownName
+from seenanddone.errors import InvalidDiagram, InvalidLot, Refused, UnknownName
 from seenanddone.web.diagrams import Diagram
 
 
@@ -45,3 +45,18 @@ def need_two(diagram, a, b):
         raise UnknownName(a)
     if b not in diagram or b == a:
         raise UnknownName(b)
+
+
+def need_effect(diagram, x, y):
+    """Raise unless they are a diagram and two lots of its things that do not meet, the second one not empty."""
+    need_diagram(diagram)
+    need_lot(x, diagram.things)
+    need_some(y, diagram.things)
+    if any([thing in x for thing in y]):
+        raise InvalidLot("the lots meet")
+
+
+def need_bowless(diagram):
+    """Raise if the diagram has bows."""
+    if len(diagram.bows) > 0:
+        raise Refused(("bows",))

@@ -6,7 +6,7 @@ from seenanddone.errors import InvalidDiagram, InvalidLot, UnknownName
 MAX_THINGS = 6
 
 
-def _are_arrows(value, things):
+def are_arrows(value, things):
     """Whether the value is an ascending tuple of pairs of different things."""
     if not isinstance(value, tuple):
         return False
@@ -18,9 +18,15 @@ def _are_arrows(value, things):
     return is_ascending(value)
 
 
-def _are_bows(value, things):
+def are_bows(value, things):
     """Whether the value is an ascending tuple of ascending pairs of things."""
-    return _are_arrows(value, things) and all([pair[0] < pair[1] for pair in value])
+    return are_arrows(value, things) and all([pair[0] < pair[1] for pair in value])
+
+
+def has_ring(things, arrows):
+    """Whether some arrows between things have a ring."""
+    parents = {thing: [cause for cause, effect in arrows if effect == thing] for thing in things}
+    return len(_order_of(things, parents)) < len(things)
 
 
 def _order_of(things, parents):
@@ -53,7 +59,7 @@ class Diagram:
     def __init__(self, things, arrows=(), bows=()):
         if not is_lot(things) or not 1 <= len(things) <= MAX_THINGS:
             raise InvalidDiagram("the things are no lot of one to six names")
-        if not _are_arrows(arrows, things) or not _are_bows(bows, things):
+        if not are_arrows(arrows, things) or not are_bows(bows, things):
             raise InvalidDiagram("no ascending tuples of pairs of things")
         self._things = things
         self._arrows = arrows

@@ -1,12 +1,12 @@
 """Diagrams of which somebody sees a part of the things alone, and hidden causes that become things."""
-from seenanddone.base.helpers import product_of
+from seenanddone.base.helpers import pairs_of, picked, places_in, product_of
 from seenanddone.base.numbers import is_name, without
-from seenanddone.errors import InvalidOperation, InvalidWorld, TooMany
+from seenanddone.errors import InvalidOperation, TooMany
 from seenanddone.web.checks import need_diagram, need_some
 from seenanddone.web.diagrams import MAX_THINGS, Diagram
 from seenanddone.web.trails import is_trail, meeting, trails_between
 from seenanddone.world.tables import MAX_ROWS
-from seenanddone.world.worlds import World, bows_at
+from seenanddone.world.worlds import World, bows_at, need_world
 
 
 def _need_seen(diagram, seen):
@@ -34,7 +34,7 @@ def projected(diagram, seen):
     _need_seen(diagram, seen)
     arrows = []
     bows = []
-    for pair in [(one, other) for one in seen for other in seen if one < other]:
+    for pair in pairs_of(seen):
         signs = [_sign_of(trail) for trail in _carriers(diagram, seen, pair[0], pair[1])]
         if ">" in signs:
             arrows.append(pair)
@@ -104,8 +104,7 @@ def unfolded(diagram, names):
 
 def unfolded_world(world, names):
     """The world in which the hidden things of some bows become things with names."""
-    if not isinstance(world, World):
-        raise InvalidWorld("no world")
+    need_world(world)
     if not _are_names(world.diagram, names):
         raise InvalidOperation("no new names of bows of the diagram")
     hidden = world.hidden
@@ -126,6 +125,6 @@ def _moved_table(world, diagram, names, thing):
     """The table of a thing of the world, with the places that its rows have in the unfolded diagram."""
     bows = bows_at(world.diagram, thing)
     read = world.diagram.parents(thing) + tuple([names.get(bow, bow) for bow in bows])
-    places = [read.index(part) for part in diagram.parents(thing) + bows_at(diagram, thing)]
+    places = places_in(read, diagram.parents(thing) + bows_at(diagram, thing))
     table = world.tables[thing]
-    return {tuple([row[place] for place in places]): table[row] for row in table}
+    return {picked(row, places): table[row] for row in table}

@@ -1,7 +1,8 @@
 """Tables: the shares of all rows of values of some things."""
 from math import gcd
 
-from seenanddone.base.helpers import common_bottom, is_row, is_whole_within, lot_of, lowest, product_of, rows_of
+from seenanddone.base.helpers import (
+    common_bottom, is_row, is_whole_within, lcm_of, lot_of, lowest, picked, places_in, product_of, rows_of)
 from seenanddone.base.numbers import ONE, ZERO, is_fraction, is_name
 from seenanddone.errors import InvalidDeed, InvalidTable
 from seenanddone.web.checks import need_lot, need_lots, need_some
@@ -107,9 +108,9 @@ class Table:
         lots = [lot_of(x + y + z), z, lot_of(x + z), lot_of(y + z)]
         whole = self._summed_tops(lots[0])
         seen, one, other = [self._summed_tops(lot) for lot in lots[1:]]
-        places = [[lots[0].index(thing) for thing in lot] for lot in lots[1:]]
+        places = [places_in(lots[0], lot) for lot in lots[1:]]
         for row in whole:
-            at_seen, at_one, at_other = [tuple([row[place] for place in part]) for part in places]
+            at_seen, at_one, at_other = [picked(row, part) for part in places]
             if whole[row] * seen[at_seen] != one[at_one] * other[at_other]:
                 return False
         return True
@@ -138,10 +139,10 @@ class Table:
 
     def _summed_tops(self, lot):
         """The dict from all rows of a lot to their shares, times the common bottom."""
-        places = [self._things.index(thing) for thing in lot]
+        places = places_in(self._things, lot)
         tops = {row: 0 for row in self._rows_of(lot)}
         for row in self._tops:
-            part = tuple([row[place] for place in places])
+            part = picked(row, places)
             tops[part] = tops[part] + self._tops[row]
         return tops
 
@@ -153,6 +154,23 @@ class Table:
 
     def __str__(self):
         return f"table of {len(self._things)} things, {len(self._tops)} rows"
+
+
+def need_table(table):
+    """Raise unless it is a table."""
+    if not isinstance(table, Table):
+        raise InvalidTable("no table")
+
+
+def tops_of(table, lot):
+    """The dict from all rows of a lot to their shares, times one number that all lots of a table have in common."""
+    return table._summed_tops(lot)
+
+
+def table_of_shares(sizes, shares):
+    """The table with these shares; its bottoms may pass the bound of a Table."""
+    bottom = lcm_of([part[1] for part in list(shares.values())])
+    return table_of(sizes, {row: shares[row][0] * (bottom // shares[row][1]) for row in shares})
 
 
 def table_of(sizes, tops):

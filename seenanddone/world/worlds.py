@@ -1,5 +1,5 @@
 """Worlds of diagrams: how hidden things and things are drawn."""
-from seenanddone.base.helpers import common_bottom, is_row, is_whole_within, product_of, rows_of
+from seenanddone.base.helpers import common_bottom, is_row, is_whole_within, picked, places_in, product_of, rows_of
 from seenanddone.base.numbers import HALF, are_shares
 from seenanddone.errors import InvalidNumber, InvalidWorld, TooMany
 from seenanddone.web.checks import need_diagram
@@ -76,7 +76,7 @@ class World:
             thing: {row: tables[thing][row] for row in rows_of(_counts_of(diagram, sizes, hidden, thing))}
             for thing in diagram.things
         }
-        self._seen = table_of(self._sizes, _seen_tops(diagram, self._sizes, self._hidden, self._tables))
+        self._seen = table_of(self._sizes, seen_tops(diagram, self._sizes, self._hidden, self._tables))
 
     @property
     def diagram(self):
@@ -122,13 +122,19 @@ class World:
         return f"world of {len(self._sizes)} things, {len(self._hidden)} bows"
 
 
-def _seen_tops(diagram, sizes, hidden, tables):
+def need_world(world):
+    """Raise unless it is a world."""
+    if not isinstance(world, World):
+        raise InvalidWorld("no world")
+
+
+def seen_tops(diagram, sizes, hidden, tables):
     """The dict from all rows to numbers that are to one another as the seen shares are."""
     whole = rows_of([sizes[thing] for thing in diagram.things])
     heads = {thing: rows_of([sizes[cause] for cause in diagram.parents(thing)]) for thing in diagram.things}
     spots = {thing: _spots_of(diagram, thing, sizes[thing], heads[thing], whole) for thing in diagram.things}
-    scaled = {thing: _scaled(tables[thing]) for thing in diagram.things}
-    draws = {bow: _tops_of(hidden[bow], common_bottom(hidden[bow])) for bow in diagram.bows}
+    scaled = {thing: scaled_table(tables[thing]) for thing in diagram.things}
+    draws = {bow: tops_over(hidden[bow], common_bottom(hidden[bow])) for bow in diagram.bows}
     found = [0 for _ in whole]
     for values in rows_of([len(hidden[bow]) for bow in diagram.bows]):
         drawn = {bow: value for bow, value in zip(diagram.bows, values)}
@@ -142,22 +148,23 @@ def _seen_tops(diagram, sizes, hidden, tables):
     return {row: top for row, top in zip(whole, found)}
 
 
-def _scaled(table):
-    """The shares of a table, times their common bottom."""
+def scaled_table(table):
+    """The dict from the rows of the table of a thing to lists of the shares, times their common bottom."""
     bottom = common_bottom([part for row in table for part in table[row]])
-    return {row: _tops_of(table[row], bottom) for row in table}
+    return {row: tops_over(table[row], bottom) for row in table}
 
 
-def _tops_of(shares, bottom):
+def tops_over(shares, bottom):
+    """The list of the tops that some shares have over a common bottom."""
     return [top * (bottom // own) for top, own in shares]
 
 
 def _spots_of(diagram, thing, size, heads, whole):
     """For each row of all things the place of its share in the table of a thing, read row by row of its parents."""
     firsts = {head: index * size for index, head in enumerate(heads)}
-    places = [diagram.things.index(cause) for cause in diagram.parents(thing)]
+    places = places_in(diagram.things, diagram.parents(thing))
     own = diagram.things.index(thing)
-    return [firsts[tuple([row[place] for place in places])] + row[own] for row in whole]
+    return [firsts[picked(row, places)] + row[own] for row in whole]
 
 
 def even_world(diagram, size=2):

@@ -1,0 +1,1 @@
+"""What deeds bring, and what tells it."""

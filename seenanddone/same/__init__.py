@@ -1,0 +1,1 @@
+"""Which diagrams cannot be told apart by looking."""

@@ -1,0 +1,1 @@
+"""Webs of ties without arrows."""

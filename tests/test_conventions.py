@@ -6,9 +6,17 @@ import pathlib
 import re
 import unittest
 
+from seenanddone.adjust import adjusting, erring
 from seenanddone.bars import barred, felt, separators
+from seenanddone.deed import deeds, needs, steps, twins
+from seenanddone.same import answers as same_answers
+from seenanddone.same import pictures, sayings
+from seenanddone.same.pictures import Picture
+from seenanddone.ties import webs
+from seenanddone.ties.webs import Web
 from seenanddone.web import hiding, trails
 from seenanddone.web.diagrams import Diagram
+from seenanddone.world import fits
 from seenanddone.world.tables import Table
 from seenanddone.world.worlds import World, even_world
 from tests import helper
@@ -29,6 +37,33 @@ INTERFACE = {
     "bars.separators": """least_separators(diagram,a,b) is_least_separator(diagram,a,b,value) nearest(diagram,a,b)
         lightest(diagram,x,y,prices,*,must=()) is_lightest(diagram,x,y,prices,value,*,must=())
         free_road(diagram,x,y,prices,*,must=()) is_free_road(diagram,x,y,prices,value,*,must=())""",
+    "world.fits": """does_fit(table,diagram) misfit(table,diagram) is_misfit(table,diagram,value) fitting_world(table,diagram)
+        least_diagram(table,order) is_least_diagram(table,order,value)""",
+    "ties.webs": """Web(things,ties=()) corner_order(web) is_corner_order(web,value) ring_without_chord(web)
+        is_ring_without_chord(web,value) join_tree(web) is_join_tree(web,value) joined(web,tables) does_split(table,web)
+        unswapped(table,web) is_unswapped(table,web,value)""",
+    "same.sayings": """are_near(diagram,a,b) binding_trail(diagram,a,b) is_binding_trail(diagram,a,b,value)
+        does_meet(diagram,a,b,c) answers_of(diagram) is_same(one,other) parting_saying(one,other)
+        is_parting_saying(one,other,value) turnings(one,other) is_turnings(one,other,value)""",
+    "same.pictures": """Picture(things,arrows=(),open_ties=()) picture_of(diagram) sure_rows(picture,tie)
+        is_sure_rows(picture,tie,value) two_members(picture,tie) is_two_members(picture,tie,value)
+        turned_from(picture,piece,thing)""",
+    "same.answers": """is_answers(things,value) are_tied(things,answers,a,b) arrows_told(things,answers,value)
+        picture_of_answers(things,answers) bar_of_answers(things,answers) is_bar_of_answers(things,answers,value)""",
+    "deed.deeds": """is_deed(sizes,value) done(world,deed) done_world(world,deed) does_rule_hold(diagram,rule,x,y,z,w)
+        breaking_world(diagram,rule,x,y,z,w) is_breaking(diagram,rule,x,y,z,w,value)""",
+    "deed.steps": """leading(diagram,x,y) pieces(diagram,x,y) lots_of_steps(diagram,steps) is_steps(diagram,x,y,value)
+        steps_of(diagram,x,y) step_value(diagram,table,steps,index,row) told_by_steps(diagram,table,x,y,steps,deed)""",
+    "deed.twins": """knot_of(diagram,x,y) is_knot(diagram,x,y,value) is_told(diagram,x,y) twins_of(diagram,x,y)
+        are_twins(diagram,x,y,value) unlike_deed(diagram,x,y,twins)""",
+    "deed.needs": """must_see(diagram,x,y,*,by='steps') left_open(diagram,x,y,*,by='steps')
+        are_sights(diagram,x,y,value,*,by='steps') without_ties(diagram,ties)
+        must_rule_out(diagram,x,y,doubtful,*,by='steps') still_doubtful(diagram,x,y,doubtful,*,by='steps')
+        are_doubts(diagram,x,y,doubtful,value,*,by='steps') meeting_lots(lots)""",
+    "adjust.adjusting": """led(diagram,x,y) trimmed(diagram,x,y) adjusted(table,x,y,z,deed) is_adjusting(diagram,x,y,z)
+        adjust_bar(diagram,x,y,z) is_adjust_bar(diagram,x,y,z,value)""",
+    "adjust.erring": """bar_world(diagram,x,y,z,bar) erring_world(diagram,x,y,z) is_erring(diagram,x,y,z,value)
+        widest_adjusting(diagram,x,y) lightest_adjusting(diagram,x,y,prices)""",
     "web.hiding": """projected(diagram,seen) carrier(diagram,seen,joint) is_carrier(diagram,seen,joint,value)
         unfolded(diagram,names) unfolded_world(world,names)""",
 }
@@ -37,14 +72,25 @@ METHODS = {
         cut(lot) bare(lot) part(lot)""",
     Table: "share(event) share_given(event,seen) summed(lot) is_free(x,y,z) rows(lot=None)",
     World: "",
+    Web: "tied(thing)",
+    Picture: "members() member(index) index_of(diagram)",
 }
 PROPERTIES = {
     Diagram: "things arrows bows ties order districts",
     Table: "things sizes shares full",
     World: "diagram sizes hidden tables seen full",
+    Web: "things ties cliques",
+    Picture: "things arrows open_ties pieces ways",
+}
+CONSTANTS = {
+    "deed.steps": {"MAX_STEPS": 60}, "deed.needs": {"MAX_TIES": 6, "MAX_MET": 40, "WAYS": ("steps", "lot")},
+    "web.diagrams": {"MAX_THINGS": 6}, "world.tables": {"MAX_VALUES": 16, "MAX_ROWS": 4096},
+    "world.worlds": {"MAX_HIDDEN": 256, "MAX_BOTTOM": 1000000}, "bars.separators": {"MAX_PRICE": 1000},
 }
 SPECIAL = {
-    Diagram: "__contains__ __len__ __iter__ __eq__ __str__", Table: "__len__ __eq__ __str__", World: "__len__ __eq__ __str__"}
+    Diagram: "__contains__ __len__ __iter__ __eq__ __str__", Table: "__len__ __eq__ __str__", World: "__len__ __eq__ __str__",
+    Web: "__contains__ __len__ __eq__ __str__", Picture: "__contains__ __len__ __eq__ __str__"}
+FORKED = Diagram(DIAMOND.things, (("a", "b"), ("a", "c"), ("c", "d")))
 
 
 def told(parameters):
@@ -65,7 +111,7 @@ class InterfaceTest(unittest.TestCase):
         for kind, entries in METHODS.items():
             for entry in entries.split():
                 word, _, parameters = entry.partition("(")
-                self.assertEqual(told(inspect.signature(vars(kind)[word])), "(self," + parameters)
+                self.assertEqual(told(inspect.signature(vars(kind)[word])).replace("(self)", "(self,)"), "(self," + parameters)
             for word in PROPERTIES[kind].split():
                 self.assertIsInstance(vars(kind)[word], property)
             for word in SPECIAL[kind].split():
@@ -73,14 +119,22 @@ class InterfaceTest(unittest.TestCase):
 
     def test_properties_cannot_be_set(self):
         world = even_world(FRONT)
-        for kind, value in ((Diagram, FRONT), (World, world), (Table, world.seen)):
+        web, picture = Web(("a", "b"), (("a", "b"),)), pictures.picture_of(FORK)
+        for kind, value in ((Diagram, FRONT), (World, world), (Table, world.seen), (Web, web), (Picture, picture)):
             for word in PROPERTIES[kind].split():
                 with self.assertRaises(AttributeError):
                     setattr(value, word, None)
 
     def test_generators(self):
         self.assertTrue(inspect.isgeneratorfunction(Table.rows))
+        self.assertTrue(inspect.isgeneratorfunction(Picture.members))
         self.assertTrue(inspect.isgeneratorfunction(importlib.import_module("seenanddone.base.numbers").lots_of))
+
+
+    def test_constants(self):
+        for name, values in CONSTANTS.items():
+            module = importlib.import_module(f"seenanddone.{name}")
+            self.assertEqual({word: getattr(module, word) for word in values}, values)
 
 
 class JudgeTest(unittest.TestCase):
@@ -100,11 +154,38 @@ class JudgeTest(unittest.TestCase):
         yield lambda value: separators.is_lightest(DIAMOND, x, y, {"b": 1}, value, must=("c",))
         yield lambda value: separators.is_free_road(DIAMOND, x, y, {"b": 1}, value)
         yield lambda value: hiding.is_carrier(DIAMOND, x + y, ("a", ">", "d"), value)
+        table, square = some_world(DIAMOND, 1).seen, Web(DIAMOND.things, DIAMOND.ties)
+        picture, answers = pictures.picture_of(DIAMOND), sayings.answers_of(DIAMOND)
+        yield lambda value: fits.is_misfit(table, FORKED, value)
+        yield lambda value: fits.is_least_diagram(table, DIAMOND.things, value)
+        for call in (webs.is_corner_order, webs.is_ring_without_chord, webs.is_join_tree):
+            yield lambda value: call(square, value)
+        yield lambda value: webs.is_unswapped(table, square, value)
+        yield lambda value: sayings.is_binding_trail(DIAMOND, "a", "d", value)
+        yield lambda value: sayings.is_parting_saying(DIAMOND, FORKED, value)
+        yield lambda value: sayings.is_turnings(DIAMOND, FORKED, value)
+        yield lambda value: pictures.is_sure_rows(picture, ("b", "d"), value)
+        yield lambda value: pictures.is_two_members(picture, ("a", "b"), value)
+        yield lambda value: same_answers.is_answers(DIAMOND.things, value)
+        yield lambda value: same_answers.is_bar_of_answers(DIAMOND.things, answers, value)
+        yield lambda value: deeds.is_deed({"a": 2}, value)
+        yield lambda value: deeds.is_breaking(DIAMOND, "look", (), x, y, (), value)
+        yield lambda value: steps.is_steps(DIAMOND, x, y, value)
+        yield lambda value: twins.is_knot(DIAMOND, x, y, value)
+        yield lambda value: twins.are_twins(DIAMOND, x, y, value)
+        yield lambda value: needs.are_sights(DIAMOND, x, y, value)
+        yield lambda value: needs.are_doubts(DIAMOND, x, y, (), value, by="lot")
+        yield lambda value: adjusting.is_adjust_bar(DIAMOND, x, y, ("b",), value)
+        yield lambda value: erring.is_erring(DIAMOND, x, y, ("b",), value)
 
     def test_every_value(self):
         pairs = [(one, other) for one in ODDER for other in ODDER[::5]]
         rows = [("a", ">", "b"), ("a", one := None, "d"), ("a", ["b"], "d"), ((), ()), (("a",), {}), ({}, {}), (one, {"a": ("a",)}),
-                (("a", ">", "b", ">", "d"), {"d": FORK}), (("b", "c"), ((1, ("a", "b", "d")),)), (("a", "c", "d"),), {"a": {"b": FORK}}]
+                (("a", ">", "b", ">", "d"), {"d": FORK}), (("b", "c"), ((1, ("a", "b", "d")),)), (("a", "c", "d"),), {"a": {"b": FORK}},
+                *((word, one, other) for word in ("meet", "open", "below", "on", "ring", "both", "new", "answer", "piece", "less")
+                  for one in (0, (), ("a", "b", "d"), FORK, None, True) for other in ((), ["a"], ("a",), {}, None, FORK)),
+                *((word, one) for word in ("on", "split", "chord", "seen") for one in ODDER), *(((value,) * 3,) for value in ODDER),
+                (("seen",), ("less", 0, ["a"])), (("seen",), ("piece", "0", ("a",))), (("meet", ["a"], "b", "c"),), ((("a",), ["b"], ()),) * 2]
         for judge in self.judges():
             for value in list(ODDER) + pairs + rows + [list(pair) for pair in pairs[::7]]:
                 self.assertIn(judge(value), (True, False))
@@ -125,6 +206,32 @@ class ArgumentsStayTest(unittest.TestCase):
         self.assertEqual(barred.open_trail(DIAMOND, ("b",), ("c",), ("d",)), kept)
         felt.joints_of(DIAMOND, *kept)
         self.assertEqual(kept, barred.open_trail(DIAMOND, ("b",), ("c",), ("d",)))
+
+    def test_deeds_stay(self):
+        world, deed = some_world(FRONT, 1), {"x": 1}
+        tables, hidden, sizes = world.tables, world.hidden, world.sizes
+        path = (("seen",), ("piece", 0, ("z",)), ("piece", 0, ("x", "y")), ("less", 2, ("y",)))
+        told = steps.told_by_steps(FRONT, world.seen, ("x",), ("y",), path, deed)
+        told.clear()
+        self.assertEqual(len(steps.told_by_steps(FRONT, world.seen, ("x",), ("y",), path, deed)), world.sizes["y"])
+        for call in (lambda: deeds.done(world, deed), lambda: deeds.done_world(world, deed), lambda: deeds.done_evenly(world, ("x",)),
+                     lambda: adjusting.adjusted(world.seen, ("x",), ("y",), ("z",), deed)):
+            self.assertEqual(call(), call())
+            self.assertEqual((world.tables, world.hidden, world.sizes, deed), (tables, hidden, sizes, {"x": 1}))
+        answers = sayings.answers_of(DIAMOND)
+        kept = copy.deepcopy(answers)
+        same_answers.bar_of_answers(DIAMOND.things, answers)
+        self.assertEqual(answers, kept)
+        answers.clear()
+        self.assertEqual(sayings.answers_of(DIAMOND), kept)
+        prices = {"c": 3, "b": 2}
+        erring.lightest_adjusting(DIAMOND, ("a",), ("d",), prices)
+        self.assertEqual(list(prices.items()), [("c", 3), ("b", 2)])
+        bar = adjusting.adjust_bar(helper.MEET, ("a",), ("c",), ("b",))
+        bar[2].clear()
+        self.assertEqual(adjusting.adjust_bar(helper.MEET, ("a",), ("c",), ("b",))[2], {"b": ("b",)})
+        deeds_of = twins.unlike_deed(helper.BOW, ("x",), ("y",), twins.twins_of(helper.BOW, ("x",), ("y",)))
+        self.assertEqual(list(deeds_of[0]), ["x"])
 
     def test_equal_calls_return_equal_results(self):
         world = some_world(FRONT, 1)
@@ -147,7 +254,7 @@ class DocumentTest(unittest.TestCase):
         stages = re.split(r"^## ", text, flags=re.M)
         ran = 0
         for stage in stages:
-            if not re.match(r"Stage [1-6]:", stage):
+            if not re.match(r"Stage ([1-9]|1[0-6]):", stage):
                 continue
             for block in re.findall(r"^```\n(>>> .*?)^```", stage, flags=re.M | re.S):
                 lines = block.splitlines()
@@ -157,7 +264,7 @@ class DocumentTest(unittest.TestCase):
                     elif line.startswith(">>> "):
                         self.assertEqual(repr(eval(line[4:], names)), lines[at + 1])
                         ran += 1
-        self.assertEqual(ran, 5)
+        self.assertEqual(ran, 11)
 
 
 if __name__ == "__main__":

@@ -1,0 +1,1 @@
+"""What to adjust for."""

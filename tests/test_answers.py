@@ -7,6 +7,7 @@ from seenanddone.errors import InvalidLot, InvalidOperation, UnknownName
 from seenanddone.same.answers import (
     are_tied, arrows_told, bar_of_answers, is_answers, is_bar_of_answers, picture_of_answers)
 from seenanddone.same.pictures import picture_of
+from seenanddone.same.rules import way_between
 from seenanddone.same.sayings import answers_of
 from seenanddone.web.diagrams import Diagram
 from tests.helper import (
@@ -213,6 +214,27 @@ class BarTest(unittest.TestCase):
             ("both", both[::-1] + meets, ("b", "d")), ("ring", meets + both[1:], ("b", "d")), ("both", meets + both[1:]),
             ("new", meets, ("a", "b")), ("New", meets, ("a", "b", "d")), ("new", meets, ("a", "b", "d"), ()), ("new", None, ("a", "b", "d")), ("new", meets, None), ("both", meets + both[1:], None),
             ("both", meets + (("one", "a", "b", "q"),), ("b", "d")), ("both", meets + (("meet", "c", "b", "a"),) + both[1:], ("b", "d"))])
+
+    def test_ways_between(self):
+        """The shortest ways, and of these the one whose arrows stand first, step by step from the start."""
+        draw = random.Random(111)
+        pairs = list(itertools.permutations(FOUR, 2))
+        for _ in range(300):
+            arrows = tuple(draw.sample(pairs, draw.randint(0, 9)))
+            kept = list(arrows)
+            for start, end in itertools.product(FOUR, repeat=2):
+                ways = [(start,)]
+                while ways and not any(way[-1] == end for way in ways):
+                    met = {way[-1] for way in ways} | {thing for way in ways for thing in way}
+                    ways = [way + (b,) for way in ways for a, b in kept if a == way[-1] and b not in met]
+                found = way_between(arrows, start, end)
+                self.assertIs(found is None, not ways)
+                if ways:
+                    self.assertEqual(len(found), len(ways[0]))
+                    self.assertTrue(found[0] == start and found[-1] == end and set(zip(found, found[1:])) <= set(arrows))
+                self.assertEqual(way_between(list(arrows), start, end), found)
+        self.assertEqual(way_between((("a", "c"), ("a", "b"), ("b", "d"), ("c", "d")), "a", "d"), ("a", "c", "d"))
+        self.assertEqual(way_between((), "a", "a"), ("a",))
 
     def test_ring(self):
         # From what meets at b the rules go on around a ring of four things.

@@ -2,16 +2,23 @@
 import copy
 import importlib
 import inspect
+import itertools
 import pathlib
 import re
 import unittest
 
 from seenanddone.adjust import adjusting, erring
+from seenanddone.ask import questions
 from seenanddone.bars import barred, felt, separators
 from seenanddone.deed import deeds, needs, steps, twins
+from seenanddone.look import looks
+from seenanddone.mix import instrument
+from seenanddone.part import parting
 from seenanddone.same import answers as same_answers
 from seenanddone.same import pictures, sayings
 from seenanddone.same.pictures import Picture
+from seenanddone.straight import treks
+from seenanddone.straight.treks import Straight
 from seenanddone.ties import webs
 from seenanddone.ties.webs import Web
 from seenanddone.web import hiding, trails
@@ -64,6 +71,23 @@ INTERFACE = {
         adjust_bar(diagram,x,y,z) is_adjust_bar(diagram,x,y,z,value)""",
     "adjust.erring": """bar_world(diagram,x,y,z,bar) erring_world(diagram,x,y,z) is_erring(diagram,x,y,z,value)
         widest_adjusting(diagram,x,y) lightest_adjusting(diagram,x,y,prices)""",
+    "straight.treks": """Straight(diagram,weights,pulls,noises) trek_cut(diagram,x,y) is_trek_cut(diagram,x,y,value)
+        treks_apart(diagram,x,y) are_treks_apart(diagram,x,y,value) single_door(diagram,a,b,z)
+        erring_straight(diagram,a,b,z) is_erring_straight(diagram,a,b,z,value)""",
+    "part.parting": """does_tell(picture,lots) unparted(picture,lots) is_unparted(picture,lots,value) left_by(diagram,lots)
+        parted_arrows(diagram,lots) greatest_clique(picture) is_greatest_clique(picture,value) fewest_lots(picture)
+        is_fewest_lots(picture,value) colours(picture) is_colours(picture,value)""",
+    "mix.instrument": """instrument() made_by(mix) effect_of(mix) four_sums(outcomes) mix_of(outcomes) is_mix_of(outcomes,value)
+        broken_sum(outcomes) is_broken_sum(outcomes,value) least_effect(outcomes) greatest_effect(outcomes)
+        is_least_effect(outcomes,value) is_greatest_effect(outcomes,value) effect_bounds(outcomes) outcomes_of(table)
+        mix_world(mix,offer)""",
+    "look.looks": """brought(world,deed,gain,looks,policy) best_policy(world,deed,gain,looks)
+        is_best_policy(world,deed,gain,looks,value) worth_of(world,deed,gain,looks,look) does_pay(diagram,deed,gain,look)
+        look_bar(diagram,deed,gain,look) is_look_bar(diagram,deed,gain,look,value) look_trail(diagram,deed,gain,look)
+        is_look_trail(diagram,deed,gain,look,value) paying_world(diagram,deed,gain,look)
+        is_paying(diagram,deed,gain,look,value)""",
+    "ask.questions": """is_asking(value) asked_things(question) is_question(diagram,value) decide(diagram,question)
+        is_paper(diagram,question,verdict,value) show_worlds(diagram,question) is_shown(diagram,question,value)""",
     "web.hiding": """projected(diagram,seen) carrier(diagram,seen,joint) is_carrier(diagram,seen,joint,value)
         unfolded(diagram,names) unfolded_world(world,names)""",
 }
@@ -74,6 +98,7 @@ METHODS = {
     World: "",
     Web: "tied(thing)",
     Picture: "members() member(index) index_of(diagram)",
+    Straight: "covariance(a,b) block(x,y) rank(x,y) coefficient(a,b,z)",
 }
 PROPERTIES = {
     Diagram: "things arrows bows ties order districts",
@@ -81,15 +106,18 @@ PROPERTIES = {
     World: "diagram sizes hidden tables seen full",
     Web: "things ties cliques",
     Picture: "things arrows open_ties pieces ways",
+    Straight: "diagram weights pulls noises",
 }
 CONSTANTS = {
     "deed.steps": {"MAX_STEPS": 60}, "deed.needs": {"MAX_TIES": 6, "MAX_MET": 40, "WAYS": ("steps", "lot")},
     "web.diagrams": {"MAX_THINGS": 6}, "world.tables": {"MAX_VALUES": 16, "MAX_ROWS": 4096},
     "world.worlds": {"MAX_HIDDEN": 256, "MAX_BOTTOM": 1000000}, "bars.separators": {"MAX_PRICE": 1000},
+    "part.parting": {"MAX_LOTS": 8}, "mix.instrument": {"KINDS": tuple(itertools.product((0, 1), repeat=4))},
 }
 SPECIAL = {
     Diagram: "__contains__ __len__ __iter__ __eq__ __str__", Table: "__len__ __eq__ __str__", World: "__len__ __eq__ __str__",
-    Web: "__contains__ __len__ __eq__ __str__", Picture: "__contains__ __len__ __eq__ __str__"}
+    Web: "__contains__ __len__ __eq__ __str__", Picture: "__contains__ __len__ __eq__ __str__",
+    Straight: "__eq__ __str__"}
 FORKED = Diagram(DIAMOND.things, (("a", "b"), ("a", "c"), ("c", "d")))
 
 
@@ -120,7 +148,8 @@ class InterfaceTest(unittest.TestCase):
     def test_properties_cannot_be_set(self):
         world = even_world(FRONT)
         web, picture = Web(("a", "b"), (("a", "b"),)), pictures.picture_of(FORK)
-        for kind, value in ((Diagram, FRONT), (World, world), (Table, world.seen), (Web, web), (Picture, picture)):
+        straight = treks.erring_straight(helper.BACK, "x", "y", ())
+        for kind, value in ((Diagram, FRONT), (World, world), (Table, world.seen), (Web, web), (Picture, picture), (Straight, straight)):
             for word in PROPERTIES[kind].split():
                 with self.assertRaises(AttributeError):
                     setattr(value, word, None)
@@ -177,6 +206,26 @@ class JudgeTest(unittest.TestCase):
         yield lambda value: needs.are_doubts(DIAMOND, x, y, (), value, by="lot")
         yield lambda value: adjusting.is_adjust_bar(DIAMOND, x, y, ("b",), value)
         yield lambda value: erring.is_erring(DIAMOND, x, y, ("b",), value)
+        yield lambda value: treks.is_trek_cut(DIAMOND, x, y, value)
+        yield lambda value: treks.are_treks_apart(DIAMOND, x, y, value)
+        yield lambda value: treks.is_erring_straight(DIAMOND, "b", "d", (), value)
+        yield lambda value: parting.is_unparted(picture, (x,), value)
+        yield lambda value: parting.is_greatest_clique(picture, value)
+        yield lambda value: parting.is_fewest_lots(picture, value)
+        yield lambda value: parting.is_colours(picture, value)
+        outcomes = dict.fromkeys(itertools.product((0, 1), repeat=3), (1, 4))
+        for call in (instrument.is_mix_of, instrument.is_broken_sum, instrument.is_least_effect, instrument.is_greatest_effect):
+            yield lambda value: call(outcomes, value)
+        forked = even_world(FORKED)
+        yield lambda value: looks.is_best_policy(forked, "a", "d", (), value)
+        for call in (looks.is_look_bar, looks.is_look_trail, looks.is_paying):
+            yield lambda value: call(DIAMOND, "b", "d", "c", value)
+        yield questions.is_asking
+        yield lambda value: questions.is_question(DIAMOND, value)
+        for question in (("free", x, y, ()), ("adjusts", x, y, ()), ("told", x, y), ("same", FORKED.arrows), ("tells", (x,)), ("pays", "b", "d", "c")):
+            yield lambda value: questions.is_paper(DIAMOND, question, True, value)
+            yield lambda value: questions.is_paper(DIAMOND, question, False, value)
+            yield lambda value: questions.is_shown(DIAMOND, question, value)
 
     def test_every_value(self):
         pairs = [(one, other) for one in ODDER for other in ODDER[::5]]
@@ -233,6 +282,30 @@ class ArgumentsStayTest(unittest.TestCase):
         deeds_of = twins.unlike_deed(helper.BOW, ("x",), ("y",), twins.twins_of(helper.BOW, ("x",), ("y",)))
         self.assertEqual(list(deeds_of[0]), ["x"])
 
+    def test_mixes_and_policies_stay(self):
+        outcomes = dict.fromkeys(itertools.product((1, 0), repeat=3), (1, 4))
+        kept = list(outcomes.items())
+        low = instrument.least_effect(outcomes)
+        instrument.effect_bounds(outcomes)
+        self.assertIs(instrument.is_least_effect(outcomes, low), True)
+        self.assertEqual(list(outcomes.items()), kept)
+        low[1].clear()
+        self.assertEqual(len(instrument.least_effect(outcomes)[1]), 8)
+        world = some_world(helper.BACK, 1)
+        policy = {(value,): value % world.sizes["x"] for value in reversed(range(world.sizes["u"]))}
+        kept = list(policy.items())
+        self.assertEqual(looks.brought(world, "x", "y", ("u",), policy), looks.brought(world, "x", "y", ("u",), dict(kept)))
+        self.assertEqual(list(policy.items()), kept)
+        best = looks.best_policy(world, "x", "y", ("u",))
+        best.clear()
+        self.assertEqual(len(looks.best_policy(world, "x", "y", ("u",))), world.sizes["u"])
+        told = parting.colours(pictures.picture_of(FORK))
+        told.clear()
+        self.assertEqual(len(parting.colours(pictures.picture_of(FORK))), 3)
+        paper = questions.decide(FORK, ("free", ("a",), ("c",), ()))[1]
+        paper[1]["q"] = 1
+        self.assertEqual(questions.decide(FORK, ("free", ("a",), ("c",), ()))[1][1], {})
+
     def test_equal_calls_return_equal_results(self):
         world = some_world(FRONT, 1)
         self.assertEqual(world.seen.summed(("x", "y")), some_world(FRONT, 1).seen.summed(("x", "y")))
@@ -254,7 +327,7 @@ class DocumentTest(unittest.TestCase):
         stages = re.split(r"^## ", text, flags=re.M)
         ran = 0
         for stage in stages:
-            if not re.match(r"Stage ([1-9]|1[0-6]):", stage):
+            if not re.match(r"Stage ([1-9]|1[0-9]|2[01]):", stage):
                 continue
             for block in re.findall(r"^```\n(>>> .*?)^```", stage, flags=re.M | re.S):
                 lines = block.splitlines()
@@ -264,7 +337,7 @@ class DocumentTest(unittest.TestCase):
                     elif line.startswith(">>> "):
                         self.assertEqual(repr(eval(line[4:], names)), lines[at + 1])
                         ran += 1
-        self.assertEqual(ran, 11)
+        self.assertEqual(ran, 16)
 
 
 if __name__ == "__main__":

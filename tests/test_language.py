@@ -46,6 +46,18 @@ def bound_names(function):
     return names
 
 
+def changed_names(loop):
+    """The names whose lists or dicts the rows of a loop change."""
+    found = set()
+    for node in [part for row in loop.body for part in ast.walk(row)]:
+        if isinstance(node, ast.Call) and isinstance(node.func, ast.Attribute) and isinstance(node.func.value, ast.Name):
+            if node.func.attr in ("append", "clear", "extend", "insert", "pop", "remove", "reverse", "setdefault", "update"):
+                found.add(node.func.value.id)
+        if isinstance(node, ast.Subscript) and isinstance(node.ctx, ast.Store) and isinstance(node.value, ast.Name):
+            found.add(node.value.id)
+    return found
+
+
 class LanguageTest(unittest.TestCase):
     def setUp(self):
         self.trees = {path: ast.parse(path.read_text()) for path in FILES}
@@ -206,6 +218,28 @@ class LanguageTest(unittest.TestCase):
                 if isinstance(node, ast.Call) and isinstance(node.func, ast.Name) and node.func.id == "set":
                     self.assertIn(id(node), held, (path, node.lineno))
                 self.assertNotIsInstance(node, (ast.Set, ast.SetComp), path)
+
+    def test_what_a_loop_walks_stays(self):
+        """A loop changes what it goes over by no name that the function gives it."""
+        for path, node in self.functions():
+            pairs = [(part.targets[0].id, part.value.id) for part in ast.walk(node)
+                     if isinstance(part, ast.Assign) and isinstance(part.targets[0], ast.Name) and isinstance(part.value, ast.Name)]
+            for loop in ast.walk(node):
+                if isinstance(loop, ast.For) and isinstance(loop.iter, ast.Name):
+                    names = {loop.iter.id}
+                    for _ in pairs:
+                        names |= {name for pair in pairs if names & set(pair) for name in pair}
+                    self.assertFalse(names & changed_names(loop), (path, loop.lineno))
+
+    def test_stars_in_calls(self):
+        for path, tree in self.trees.items():
+            for node in ast.walk(tree):
+                if isinstance(node, ast.Call):
+                    self.assertTrue(all(word.arg is not None for word in node.keywords), path)
+                    starred = [at for at, part in enumerate(node.args) if isinstance(part, ast.Starred)]
+                    for part in node.args[starred[0]:] if starred else []:
+                        value = part.value if isinstance(part, ast.Starred) else part
+                        self.assertIsInstance(value, (ast.Name, ast.Constant), (path, node.lineno))
 
     def test_decorators(self):
         for path, node in self.functions():

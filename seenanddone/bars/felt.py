@@ -1,6 +1,6 @@
 """Worlds of sums of bits, in which what a lot does not bar is felt."""
 from seenanddone.base.helpers import is_ascending, pair_of, rows_of
-from seenanddone.base.numbers import ONE
+from seenanddone.base.numbers import ONE, ZERO
 from seenanddone.bars.barred import open_trail
 from seenanddone.errors import InvalidOperation, TooMany
 from seenanddone.web.checks import need_diagram, need_saying
@@ -10,7 +10,6 @@ from seenanddone.world.worlds import MAX_HIDDEN, World, bows_at
 _MOST_BOWS = 8
 _FAIR = ((1, 2), (1, 2))
 _SELDOM = ((3, 4), (1, 4))
-_OFTEN = ((1, 4), (3, 4))
 
 
 def _are_some(value, pairs):
@@ -25,11 +24,26 @@ def sum_world(diagram, arrows, bows, *, uneven=None):
         raise InvalidOperation("no ascending tuple of arrows of the diagram")
     if not _are_some(bows, diagram.bows):
         raise InvalidOperation("no ascending tuple of bows of the diagram")
-    fed = [effect for _, effect in arrows] + [thing for bow in bows for thing in bow]
-    if uneven is not None and uneven not in bows and (uneven not in diagram or uneven in fed):
+    if uneven is not None and uneven not in bows and (uneven not in diagram or uneven in _fed_by(arrows, bows)):
         raise InvalidOperation("neither a thing that is not fed nor one of the bows")
     if len(bows) > _MOST_BOWS:
         raise TooMany(MAX_HIDDEN)
+    return _added_world(diagram, arrows, bows, _SELDOM, uneven)
+
+
+def noiseless_world(diagram, arrows, bows):
+    """The world made of sums in which no fed thing has a noise; it has at most eight of these bows."""
+    return _added_world(diagram, arrows, bows, (ONE, ZERO), None)
+
+
+def _fed_by(arrows, bows):
+    """The list of the things to which some arrows lead, or which some bows join."""
+    return [effect for _, effect in arrows] + [thing for bow in bows for thing in bow]
+
+
+def _added_world(diagram, arrows, bows, noise, uneven):
+    """The world made of sums in which each fed thing adds a noise with these shares."""
+    fed = _fed_by(arrows, bows)
     hidden = {bow: _source(bow, uneven) if bow in bows else (ONE,) for bow in diagram.bows}
     tables = {}
     for thing in diagram.things:
@@ -37,7 +51,7 @@ def sum_world(diagram, arrows, bows, *, uneven=None):
         heeded = heeded + [bow in bows for bow in bows_at(diagram, thing)]
         counts = [2 for _ in diagram.parents(thing)] + [len(hidden[bow]) for bow in bows_at(diagram, thing)]
         tables[thing] = {
-            row: _noisy_sum(row, heeded) if thing in fed else _source(thing, uneven)
+            row: _noisy_sum(row, heeded, noise) if thing in fed else _source(thing, uneven)
             for row in rows_of(counts)
         }
     return World(diagram, {thing: 2 for thing in diagram.things}, hidden, tables)
@@ -47,10 +61,10 @@ def _source(spot, uneven):
     return _SELDOM if spot == uneven else _FAIR
 
 
-def _noisy_sum(row, heeded):
+def _noisy_sum(row, heeded, noise):
     """The shares of a thing that is the sum of the heeded values of a row and of a noise."""
     is_odd = sum([value for value, heed in zip(row, heeded) if heed]) % 2 == 1
-    return _OFTEN if is_odd else _SELDOM
+    return noise[::-1] if is_odd else noise
 
 
 def joints_of(diagram, trail, ways):

@@ -146,13 +146,14 @@ def picture_of(diagram):
     return Picture(diagram.things, arrows, open_ties)
 
 
-def _need_picture(picture):
+def need_picture(picture):
+    """Raise unless it is a picture."""
     if not isinstance(picture, Picture):
         raise InvalidWeb("no picture")
 
 
 def _need_tie(picture, tie):
-    _need_picture(picture)
+    need_picture(picture)
     turned = [pair_of(one, other) for one, other in picture.arrows]
     if tie not in picture.open_ties and tie not in turned:
         raise InvalidOperation("no tie of the picture")
@@ -230,7 +231,7 @@ def is_two_members(picture, tie, value):
 
 def turned_from(picture, piece, thing):
     """The arrows within a piece that all members have in which a thing of it is its source."""
-    _need_picture(picture)
+    need_picture(picture)
     if piece not in picture.pieces:
         raise InvalidLot("no piece of the picture")
     if thing not in piece:

@@ -98,16 +98,12 @@ def all_turned(things, arrows, open_ties):
 
 def way_between(arrows, start, end):
     """The tuple of the things on a shortest way along some arrows, or None."""
-    begun = [(start,)]
-    passed = {start: True}
-    while begun:
-        longer = []
-        for way in begun:
-            if way[-1] == end:
-                return way
-            for cause, effect in arrows:
-                if cause == way[-1] and effect not in passed:
-                    passed[effect] = True
-                    longer.append(way + (effect,))
-        begun = longer
-    return None
+    found = {start: (start,)}
+    waiting = [start]
+    while waiting and end not in found:
+        cause = waiting.pop(0)
+        for effect in [pair[1] for pair in arrows if pair[0] == cause]:
+            if effect not in found:
+                found[effect] = found[cause] + (effect,)
+                waiting.append(effect)
+    return found.get(end)

@@ -112,30 +112,36 @@ def _need_turned(one, other):
     _need_like(one, other)
 
 
-def _can_turn(diagram, arrow):
+def can_turn(diagram, arrow):
     """Whether an arrow of a diagram can be turned."""
     cause, effect = arrow
     return diagram.parents(effect) == lot_of(diagram.parents(cause) + (cause,))
 
 
-def _turned(diagram, arrow):
+def turned_about(diagram, arrow):
     """The diagram with an arrow turned about."""
     arrows = [pair for pair in diagram.arrows if pair != arrow] + [(arrow[1], arrow[0])]
     return Diagram(diagram.things, tuple(sorted(arrows)))
 
 
+def _meeting_pairs(diagram):
+    """For each thing of a diagram without bows the list of the pairs of its parents that are not tied."""
+    return [[pair for pair in pairs_of(diagram.parents(thing)) if pair not in diagram.ties] for thing in diagram.things]
+
+
 def turnings(one, other):
     """A row of turnings from one diagram without bows to another one, or None."""
     _need_turned(one, other)
-    if not is_same(one, other):
+    # Without bows diagrams with the same ties have the same sayings if the same things meet.
+    if one.ties != other.ties or _meeting_pairs(one) != _meeting_pairs(other):
         return None
     row = ()
     made = one
     # Of the arrows that stand otherwise some can always be turned, as the diagrams have the same sayings.
     while made != other:
-        arrow = [pair for pair in made.arrows if pair not in other.arrows and _can_turn(made, pair)][0]
+        arrow = [pair for pair in made.arrows if pair not in other.arrows and can_turn(made, pair)][0]
         row = row + (arrow,)
-        made = _turned(made, arrow)
+        made = turned_about(made, arrow)
     return row
 
 
@@ -146,7 +152,7 @@ def is_turnings(one, other, value):
         return False
     made = one
     for arrow in value:
-        if arrow not in made.arrows or not _can_turn(made, arrow):
+        if arrow not in made.arrows or not can_turn(made, arrow):
             return False
-        made = _turned(made, arrow)
+        made = turned_about(made, arrow)
     return made == other

@@ -1,0 +1,1 @@
+"""Questions and papers as data."""

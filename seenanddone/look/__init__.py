@@ -1,0 +1,1 @@
+"""The worth of looks ahead of a deed."""

@@ -1,0 +1,1 @@
+"""One instrument, and mixes of kinds of folk."""

@@ -1,0 +1,1 @@
+"""Deeds that part a picture."""

@@ -1,0 +1,1 @@
+"""Straight worlds: sums with weights."""

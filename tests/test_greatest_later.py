@@ -1,4 +1,4 @@
-"""The greatest inputs that the document lets are answered within some seconds (stages 17 to 21)."""
+"""The greatest inputs that the document lets are answered within some seconds (stages 17 to 25)."""
 import itertools
 import random
 import time
@@ -6,6 +6,11 @@ import unittest
 from fractions import Fraction
 
 from seenanddone.ask.questions import decide, is_paper, is_question, is_shown, show_worlds
+from seenanddone.deed.deeds import done
+from seenanddone.house.hands import Hand, House
+from seenanddone.house.log import read_log, write_log
+from seenanddone.house.register import Register
+from seenanddone.house.views import View, hiding_lots, lifted
 from seenanddone.look.looks import best_policy, is_best_policy, paying_world, worth_of
 from seenanddone.mix.instrument import (
     broken_sum, effect_bounds, greatest_effect, is_greatest_effect, is_least_effect, least_effect, made_by, mix_of)
@@ -13,7 +18,10 @@ from seenanddone.part.parting import colours, fewest_lots, left_by, parted_arrow
 from seenanddone.same.pictures import picture_of
 from seenanddone.straight.treks import (
     Straight, are_treks_apart, erring_straight, is_trek_cut, single_door, trek_cut, treks_apart)
+from seenanddone.text.shell import Shell
+from seenanddone.text.texts import read_data, read_question, write_data, write_question
 from seenanddone.web.diagrams import Diagram
+from seenanddone.web.hiding import projected
 from seenanddone.world.worlds import even_world
 from tests.helper import lots_within
 from tests.test_greatest import ALL, FOURS, PAIRS, ROW, SECONDS, SIX, TEN, great_world
@@ -90,6 +98,69 @@ class GreatestTest(unittest.TestCase):
         # Worlds of the greatest size are judged, too.
         for diagram, question, sizes in ((TEN, ("free", ("a",), ("f",), ()), (2,) * 8 + (1,) * 2), (ALL, ("same", ROW), ())):
             self.assertIs(is_shown(diagram, question, (great_world(diagram, FOURS, sizes),)), True)
+
+    def test_lifted_worlds(self):
+        for seen in (SIX, SIX[1:], SIX[:5], SIX[::2] + ("f",)):
+            base = projected(BOTH, seen)
+            sizes = (2, 2, 2, 2)[:len(base.bows)] + (1,) * (len(base.bows) - 4)
+            world = great_world(base, dict.fromkeys(seen, 3), sizes)
+            whole = lifted(BOTH, seen, world)
+            self.assertEqual(whole.seen.summed(seen), world.seen)
+            self.assertEqual(done(whole, {seen[-2]: 1}).summed(seen), done(world, {seen[-2]: 1}))
+        self.assertEqual(hiding_lots(ALL, ("a",), ("f",), SIX[1:5]), ())
+        hidden = Diagram(SIX, tuple((a, b) for a, b in PAIRS if (a, b) != ("a", "b")), ())
+        self.assertEqual(len(hiding_lots(hidden, ("c",), ("f",), ("a", "b", "d", "e"))), 2)
+        view = View(BOTH, SIX[:5])
+        for question in (("told", ("a",), ("e",)), ("free", ("a",), ("e",), SIX[1:4]), ("adjusts", ("a",), ("e",), SIX[1:4])):
+            self.assertIs(view.is_paper(question, *view.decide(question)), True)
+
+    def house(self):
+        """A house of as many studies, claims, editions and commits as there can be, all of six things."""
+        draw = random.Random(1)
+        deeds = [("begin", f"s{at}", SIX, PAIRS, PAIRS if at % 2 else ()) for at in range(8)]
+        lots = lots_within(SIX, 1)
+        for at in range(20):
+            z = draw.choice(lots_within(SIX[1:5]))
+            free, adjusts, tells = ("free", ("a",), ("f",), z), ("adjusts", ("e",), ("f",), tuple(t for t in z if t != "e")), ("tells", tuple(draw.choice(lots) for _ in range(at % 8)))
+            same = ("same", tuple(sorted(pair[::-1] if pair[1] == SIX[at % 5 + 1] and at % 3 else pair for pair in PAIRS)) if at % 5 == 4 else PAIRS)
+            for study in range(8):
+                kinds = (free, adjusts, ("told", ("a",), ("f",)), ("told", ("a", "b"), ("e", "f"))) + ((tells, same) if study % 2 == 0 else ())
+                deeds.append(("pin", f"s{study}", kinds[at % len(kinds)]))
+        for at in range(39):
+            for study in range(8):
+                pair = PAIRS[(at // 2 * 4 + study) % 15]
+                deeds.append(("edit", f"s{study}", (("no arrow" if at % 2 == 0 else "arrow",) + pair,)))
+        house = House()
+        for at in range(0, len(deeds), 8):
+            house.commit_regardless("ann", tuple(deeds[at:at + 8]))
+        return house
+
+    def test_houses(self):
+        house = self.house()
+        self.assertEqual(str(house.at()), "register of 8 studies, 160 claims")
+        self.assertEqual([house.at().editions(name) for name in house.at().studies], [40] * 8)
+        text = write_log(house)
+        again = read_log(text)
+        self.assertEqual([again.at().words(name) for name in again.at().studies], [house.at().words(name) for name in house.at().studies])
+        hand = Hand(house, "bob")
+        self.assertEqual(hand.decide("s0", ("told", ("a",), ("f",)))[0], True)
+
+    def test_shell(self):
+        shell = Shell(House())
+        things = " ".join(SIX) + ": " + ", ".join([f"{a}>{b}" for a, b in PAIRS] + [f"{a}-{b}" for a, b in PAIRS])
+        texts = (f"begin s {things}",) + ("pin s told a f",) * 9 + ("commit",) + ("why s free a f -", "see s a+b+f told a f") * 40
+        self.assertEqual(len(shell.run(texts)), 91)
+        question = ("tells", (SIX,) * 8)
+        self.assertEqual(read_question(write_question(question)), question)
+        value = {("x" * 40, f"y{at:05}"): (at, None) for at in range(700)}
+        self.assertEqual(read_data(write_data(value)), value)
+        kept = Register()
+        kept.begin("s", ALL)
+        for _ in range(20):
+            kept.pin("s", ("tells", (("a", "b", "c"), ("a", "d"))))
+        for at in range(39):
+            kept.edit("s", (("turn",) + ((("e", "f") if at % 2 == 0 else ("f", "e"))),))
+        self.assertEqual(len(kept.words("s", 40)), 20)
 
 
 if __name__ == "__main__":

@@ -22,7 +22,7 @@ BARRED_WORDS = re.compile(
     r"NamedTuple|TypedDict|TYPE_CHECKING|abstractmethod|register|mro|elements|open|input|law|eval|exec|globals)\b")
 BARRED_NODES = (
     ast.AsyncFunctionDef, ast.AsyncFor, ast.AsyncWith, ast.Await, ast.Global, ast.Nonlocal, ast.GeneratorExp, ast.Div,
-    ast.Try, ast.With, ast.Lambda, ast.NamedExpr, ast.AnnAssign, ast.Match, ast.YieldFrom, ast.Assert, ast.Delete)
+    ast.With, ast.Lambda, ast.NamedExpr, ast.AnnAssign, ast.Match, ast.YieldFrom, ast.Assert, ast.Delete)
 ALL_BUILTIN_NAMES = set(dir(__builtins__) if not isinstance(__builtins__, dict) else __builtins__)
 
 
@@ -30,6 +30,8 @@ def is_plain(node):
     """Whether an expression at module level is made of literals and operators alone."""
     if isinstance(node, (ast.Tuple, ast.List)):
         return all(is_plain(part) for part in node.elts)
+    if isinstance(node, ast.Dict):
+        return all(is_plain(part) and not isinstance(part, (ast.List, ast.Dict)) for part in node.keys + node.values)
     if isinstance(node, ast.BinOp):
         return is_plain(node.left) and is_plain(node.right)
     if isinstance(node, ast.UnaryOp):
@@ -97,6 +99,22 @@ class LanguageTest(unittest.TestCase):
                 if isinstance(node, ast.BinOp) and isinstance(node.op, ast.Pow):
                     self.assertIsInstance(node.right, ast.Constant, path)
                     self.assertLessEqual(node.right.value, 64, path)
+
+    def test_handlers(self):
+        """What is caught is the package's own errors, and each name of one stands once in its function."""
+        own = {node.name for node in self.trees[ROOT / "errors.py"].body if isinstance(node, ast.ClassDef)}
+        for path, node in self.functions():
+            handlers = [part for part in ast.walk(node) if isinstance(part, ast.ExceptHandler)]
+            for handler in handlers:
+                kinds = handler.type.elts if isinstance(handler.type, ast.Tuple) else [handler.type]
+                self.assertLessEqual({kind.id for kind in kinds}, own, path)
+            names = [handler.name for handler in handlers if handler.name]
+            self.assertEqual(len(names), len(set(names)), path)
+            self.assertFalse(set(names) & set(bound_names(node)), path)
+            for part in ast.walk(node):
+                if isinstance(part, ast.Raise) and part.exc is not None:
+                    self.assertIsInstance(part.exc, ast.Call, path)
+                    self.assertIn(part.exc.func.id, own | {"TypeError"}, path)
 
     def test_words(self):
         for path, tree in self.trees.items():

@@ -10,7 +10,7 @@ from seenanddone.deed.twins import are_twins, is_knot, twins_of
 from seenanddone.errors import InvalidOperation, InvalidQuestion
 from seenanddone.look.looks import does_pay, is_look_bar, is_look_trail, is_paying, look_bar, look_trail, paying_world
 from seenanddone.part.parting import does_cut, is_unparted, unparted
-from seenanddone.same.pictures import picture_of
+from seenanddone.same.pictures import open_ties_of, picture_of
 from seenanddone.same.sayings import is_turnings, parting_saying, turnings
 from seenanddone.web.checks import need_diagram
 from seenanddone.web.diagrams import Diagram, are_arrows, has_ring
@@ -91,14 +91,14 @@ def _parting_paper(one, other):
 
 
 def _decide_tells(diagram, lots):
-    picture = picture_of(diagram)
-    found = unparted(picture, lots)
-    if found is not None:
-        return (False, (found[0], found[1].arrows, found[2].arrows))
-    return (True, tuple([
-        (tie, [index for index, lot in enumerate(lots) if does_cut(lot, tie)][0])
-        for tie in picture.open_ties
-    ]))
+    cuts = [
+        (tie, [index for index, lot in enumerate(lots) if does_cut(lot, tie)])
+        for tie in open_ties_of(diagram)
+    ]
+    if all([len(indices) > 0 for _, indices in cuts]):
+        return (True, tuple([(tie, indices[0]) for tie, indices in cuts]))
+    tie, one, other = unparted(picture_of(diagram), lots)
+    return (False, (tie, one.arrows, other.arrows))
 
 
 def is_paper(diagram, question, verdict, value):
@@ -124,7 +124,7 @@ def _is_yes_paper(diagram, question, value):
     if word == "same":
         return is_turnings(diagram, Diagram(diagram.things, question[1]), value)
     if word == "tells":
-        return _are_cuts(picture_of(diagram).open_ties, question[1], value)
+        return _are_cuts(open_ties_of(diagram), question[1], value)
     return is_look_trail(diagram, *parts, value)
 
 

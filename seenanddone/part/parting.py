@@ -44,10 +44,13 @@ def does_tell(picture, lots):
 def unparted(picture, lots):
     """An open tie, and two members that turn it both ways and are alike under some lots; None if there are none."""
     _need_parted(picture, lots)
-    for tie in _uncut(picture, lots):
-        for member in list(picture.members()):
-            if tie in member.arrows and can_turn(member, tie):
-                return (tie, member, turned_about(member, tie))
+    uncut = _uncut(picture, lots)
+    if len(uncut) == 0:
+        return None
+    tie = uncut[0]
+    for member in picture.members():
+        if tie in member.arrows and can_turn(member, tie):
+            return (tie, member, turned_about(member, tie))
     return None
 
 

@@ -146,6 +146,11 @@ def picture_of(diagram):
     return Picture(diagram.things, arrows, open_ties)
 
 
+def open_ties_of(diagram):
+    """The open ties of the picture of a diagram without bows."""
+    return _parts_of_picture(diagram.things, diagram.arrows)[1]
+
+
 def need_picture(picture):
     """Raise unless it is a picture."""
     if not isinstance(picture, Picture):

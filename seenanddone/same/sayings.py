@@ -87,10 +87,16 @@ def is_same(one, other):
 def parting_saying(one, other):
     """A saying that holds in just one of two diagrams, or None."""
     _need_like(one, other)
-    for a, b, z in single_sayings(one.things):
+    # Without bows some saying of the first kind parts any two diagrams that do not have the same sayings.
+    for a, b, z in _ahead_sayings(one) + _ahead_sayings(other) + list(single_sayings(one.things)):
         if is_barred(one, (a,), (b,), z) != is_barred(other, (a,), (b,), z):
             return ((a,), (b,), z)
     return None
+
+
+def _ahead_sayings(diagram):
+    """The list of the sayings of two things of a diagram and of all things ahead of one of them."""
+    return [(a, b, without(diagram.ahead((a, b)), (a, b))) for a, b in pairs_of(diagram.things)]
 
 
 def is_parting_saying(one, other, value):

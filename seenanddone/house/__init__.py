@@ -1,0 +1,1 @@
+"""Studies that are kept in editions, by several people, for several viewers."""

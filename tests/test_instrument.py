@@ -222,6 +222,24 @@ class OutcomesTest(unittest.TestCase):
         check_judge(self, lambda value: is_broken_sum(third, value), [3], [0, 1, 2, 4, -1, (3, 1), "3"])
         self.assertEqual([is_broken_sum(BROKEN, 0), is_broken_sum(BROKEN, False)], [True, False])
 
+    def test_papers_of_long_integers(self):
+        # Two kinds that never take it, and do alike then: what is moved from the one to the other changes no outcome.
+        self.assertEqual([KINDS[0], KINDS[1]], [(0, 0, 0, 0), (0, 0, 0, 1)])
+        for digits, right in ((300, True), (301, True), (302, False), (900, False)):
+            little = Fraction(1, 16 * 10 ** (digits - 1) - 16)
+            mix = (pair_of(Fraction(1, 16) + little), pair_of(Fraction(1, 16) - little)) + EVEN_MIX[2:]
+            self.assertEqual(plain_made(mix), {t: Fraction(1, 4) for t in TRIPLES})
+            self.assertIs(is_mix_of(EVEN, mix), len(str(mix[0][1])) <= 300)
+            self.assertIs(len(str(mix[0][1])) <= 300, right)
+        # A part of a paper can be told otherwise where it costs nothing: prices that go up for one offer, down for the other.
+        low = least_effect(EVEN)
+        for digits in (300, 990):
+            little = Fraction(1, 10 ** digits + 7)
+            moved = {t: pair_of(Fraction(*price) + (little if t[0] else -little)) for t, price in low[1].items()}
+            self.assertIs(is_least_effect(EVEN, (low[0], moved)), True)
+            moved[(0, 0, 0)] = pair_of(Fraction(*moved[(0, 0, 0)]) + little)
+            self.assertIs(is_least_effect(EVEN, (low[0], moved)), False)
+
     def test_thirty_digits(self):
         long = 10 ** 30 - 1
         one = (pair_of(Fraction(1, long)), pair_of(Fraction(long - 1, long)), (0, 1), (0, 1))
@@ -249,7 +267,8 @@ class OutcomesTest(unittest.TestCase):
     def test_errors(self):
         bad = ODDER + ({**TAKEN, (0, 0, 0): (1, 3)}, {**TAKEN, (0, 0, 0): (3, 2), (0, 0, 1): (-1, 2)}, {t: TAKEN[t] for t in TRIPLES[1:]}, {**TAKEN, (0, 0): (0, 1)},
                        {**TAKEN, (0, 0, 0): (2, 4)}, {**TAKEN, (0, 1, 0): 0}, {(True if z else False, x, y): s for (z, x, y), s in TAKEN.items()}, list(TAKEN.items()),
-                       {**{t: TAKEN[t] for t in TRIPLES[1:]}, (0, 0, 2): (1, 2)}, {**{t: TAKEN[t] for t in TRIPLES[1:]}, "000": (1, 2)})
+                       {**{t: TAKEN[t] for t in TRIPLES[1:]}, (0, 0, 2): (1, 2)}, {**{t: TAKEN[t] for t in TRIPLES[1:]}, "000": (1, 2)},
+                       *({**{t: TAKEN[t] for t in TRIPLES if t != gone}, more: TAKEN[gone]} for gone, more in (((1, 0, 0), (2, 0, 0)), ((0, 1, 0), (0, 2, 0)), ((0, 1, 1), (0, 1, 2)))))
         for call in (four_sums, mix_of, broken_sum, least_effect, greatest_effect, effect_bounds):
             check_errors(self, call, (TAKEN,), {0: (InvalidOperation, bad)})
         for call in (is_mix_of, is_broken_sum, is_least_effect, is_greatest_effect):

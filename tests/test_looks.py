@@ -239,7 +239,8 @@ class PaysTest(unittest.TestCase):
             ("behind", ["d"]), ("behind",), ("behind", ("d",), ()), ("cut", ()), ("cut", None)])
         barred = Diagram(("d", "g", "p", "w"), (("d", "g"), ("p", "d"), ("p", "g"), ("w", "p")))
         check_judge(self, lambda value: is_look_bar(barred, "d", "g", "w", value), [("cut", ("w",))], [
-            ("cut", ()), ("cut", ("g",)), ("cut", ("p", "w")), ("cut", ("w", "w")), ("behind", ("d",)), ("behind", ("w",)), ("cut", ["w"]), ["cut", ("w",)]])
+            ("cut", ()), ("cut", ("g",)), ("cut", ("p", "w")), ("cut", ("w", "w")), ("behind", ("d",)), ("behind", ("w",)), ("cut", ["w"]), ["cut", ("w",)],
+            ("Cut", ("w",)), ("open", ("w",)), (None, ("w",)), ("cut", ("w",), ())])
         world = paying_world(TIP, "d", "g", "w")
         check_judge(self, lambda value: is_paying(*args, value), [world], [even_world(TIP), even_world(LATE), (world,)])
 

@@ -100,7 +100,8 @@ class AlikeTest(unittest.TestCase):
         check_judge(self, lambda value: is_unparted(picture_of(FORK), (("a",),), value), [(tie, one, other)], [
             (tie, other, one), (tie, one, one), (("a", "b"), one, other), (("a", "b"), third, one), (("c", "b"), one, other), (tie, one), [tie, one, other],
             (tie, one, MEET), (tie, MEET, other), (tie, third, other), (tie, one, other, other), (None, one, other), (tie, one, None), (tie, one.arrows, other.arrows),
-            (["b", "c"], one, other), (tie, BOW, other)])
+            (["b", "c"], one, other), (tie, BOW, other), (("c", "b"), other, one), (tie, Diagram(("a", "b", "c"), (("b", "c"),)), other),
+            (tie, one, Diagram(("a", "b", "c"), (("c", "b"),)))])
         # The members can differ at other ties, too.
         chain = [Diagram(SIX[:4], arrows) for arrows in ((("a", "b"), ("b", "c"), ("c", "d")), (("b", "a"), ("c", "b"), ("d", "c")))]
         picture = picture_of(chain[0])

@@ -41,7 +41,7 @@ FORMS = {
         ("tells", ("a",)), ("tells", (("b", "a"),)), ("tells", [()]), ("tells", ((),) * 9), ("tells",), ("tells", (), ()), ("tells", (["a"],)), ("tells", (("a", "a"),)), ("tells", None)],
     ("pays", "a", "b", "c"): [
         ("pays", "a", "b", "b"), ("pays", "a", "a", "b"), ("pays", "a", "b", "a"), ("pays", "a", "b"), ("pays", "a", "b", "c", "d"), ("pays", ("a",), "b", "c"), ("pays", "a", "b", "C"),
-        ("pays", "a", "b", None), ("pays", "a", "b", []), ["pays", "a", "b", "c"], ("pays",)],
+        ("pays", "a", "b", None), ("pays", "a", "b", []), ["pays", "a", "b", "c"], ("pays",), ("Pays", "a", "b", "c"), (None, "a", "b", "c")],
 }
 
 
@@ -140,7 +140,8 @@ class FormTest(unittest.TestCase):
     def test_names(self):
         told = {
             ("free", ("c",), ("a", "d"), ("b",)): ("a", "b", "c", "d"), ("adjusts", ("b",), ("a",), ()): ("a", "b"), ("told", (), ("q",)): ("q",), ("same", (("b", "c"), ("c", "a"))): ("a", "b", "c"),
-            ("same", ()): (), ("tells", (("z",), (), ("a", "z"))): ("a", "z"), ("tells", ()): (), ("pays", "w", "d", "g"): ("d", "g", "w")}
+            ("same", ()): (), ("tells", (("z",), (), ("a", "z"))): ("a", "z"), ("tells", ()): (), ("pays", "w", "d", "g"): ("d", "g", "w"),
+            ("pays", "look", "deed", "gain9"): ("deed", "gain9", "look")}
         for question, names in told.items():
             self.assertEqual(asked_things(question), names)
 
@@ -230,7 +231,8 @@ class VerdictTest(unittest.TestCase):
         self.assertIs(is_paper(CHAIN, ("same", MEET.arrows), False, (back, ("c",), (("c", ">", "b", "<", "a"), {"b": ("b",)}))), True)
         judge(FORK, ("tells", (("b",), ("a", "c"))), True, [((("a", "b"), 0), (("b", "c"), 0)), ((("a", "b"), 1), (("b", "c"), 0))], [
             ((("a", "b"), 0),), ((("b", "c"), 0), (("a", "b"), 0)), ((("a", "b"), 0), (("b", "c"), 2)), ((("a", "b"), 0), (("b", "c"), False)),
-            ((("a", "b"), 0), (("b", "c"), -1)), ((("a", "b"), 0), (("b", "c"), 0), (("b", "c"), 1)), [(("a", "b"), 0), (("b", "c"), 0)]])
+            ((("a", "b"), 0), (("b", "c"), -1)), ((("a", "b"), 0), (("b", "c"), 0), (("b", "c"), 1)), [(("a", "b"), 0), (("b", "c"), 0)],
+            ((("a", "b"), 0), (("b", "c"), 0, 0)), ((("a", "b"), 0), (("b", "c"),)), ((("a", "b"), 0), [("b", "c"), 0])])
         one, other = (("b", "a"), ("b", "c")), (("b", "a"), ("c", "b"))
         judge(FORK, ("tells", (("a",),)), False, [(("b", "c"), one, other)], [
             (("b", "c"), other, one), (("a", "b"), one, other), (("b", "c"), one, one), (("b", "c"), one), (("b", "c"), one, (("a", "b"), ("c", "b"))),
@@ -306,7 +308,8 @@ class ShownTest(unittest.TestCase):
         pays = paying_world(TIP, "d", "g", "w")
         judge(TIP, ("pays", "d", "g", "w"), [(pays,)], [pays, [pays], (even_world(TIP),), (pays, pays)])
         unlike = felt_world(CHAIN, ("a",), ("c",), ())
-        judge(CHAIN, ("same", MEET.arrows), [(unlike,), (felt_world(MEET, ("a",), ("c",), ("b",)),)], [unlike, [unlike], (unlike, unlike), (even_world(CHAIN),), (even_world(MEET),), (felt,)])
+        judge(CHAIN, ("same", MEET.arrows), [(unlike,), (felt_world(MEET, ("a",), ("c",), ("b",)),)], [unlike, [unlike], (unlike, unlike), (even_world(CHAIN),), (even_world(MEET),), (felt,),
+            (some_world(Diagram(CHAIN.things, (("a", "b"), ("a", "c"), ("b", "c"))), 1),), (even_world(BACK),), (some_world(BACK, 1),)])
         for diagram, question in ((FORK, ("free", ("a",), ("c",), ("b",))), (BACK, ("adjusts", ("x",), ("y",), ("u",))), (FRONT, ("told", ("x",), ("y",))),
                                   (FORK, ("tells", ())), (FORK, ("tells", (("b",),))), (CHAIN, ("same", FORK.arrows)), (CHAIN, ("pays", "c", "b", "a"))):
             values = [value for value in ODDER if value != ()] + [(even_world(diagram),), (felt,), twins, ((),)]

@@ -104,7 +104,7 @@ class ShellTest(unittest.TestCase):
             "begin t a a": "invalid", "begin t a b: a>b, b>a": "invalid", "begin flu a": "invalid", "begin t a b c d e f g": "invalid", "edit t drop a": "invalid", "edit flu arrow x x": "invalid",
             "edit flu drop q": "refused edit", "edit flu arrow y x": "refused edit", "pin t told - a": "invalid", "pin flu told x q": "invalid", "pin flu told x x": "invalid", "pin flu same -": "invalid",
             "ask t told x y": "invalid", "ask flu tells": "invalid", "why flu told x q": "invalid", "see t x told - x": "invalid", "see flu x+x told - x": "invalid", "see flu q told - x": "invalid",
-            "see flu - told - x": "invalid", "see flu x told x y": "invalid", "words t": "invalid", "commit": "refused empty", "commit flu 1": "refused empty", "commit t 0": "refused empty", "forward": "no more"}
+            "see flu - told - x": "invalid", "see flu x told x y": "invalid", "words t": "invalid", "commit": "refused empty", "commit flu 1": "refused empty", "commit t 0": "refused empty", "commit t 100": "refused empty", "commit t 999": "refused empty", "forward": "no more"}
         for text, answer in answers.items():
             before = state(house, shell)
             self.assertEqual(shell.say(text), answer, text)
@@ -142,7 +142,7 @@ class ShellTest(unittest.TestCase):
             if not isinstance(value, str) or len(value) > 2000 or not value.isprintable():
                 with self.assertRaises(InvalidOperation):
                     shell.say(value)
-        self.assertEqual([shell.say("x" * 2000), shell.say(" " * 2000)], ["wrong at 0", ""])
+        self.assertEqual([shell.say("x" * 2000), shell.say(" " * 2000), shell.say("~")], ["wrong at 0", "", "wrong at 0"])
         self.assertEqual(len(house), 1)
         check_errors(self, Shell, (house,), {0: (InvalidOperation, ODDER)})
         with self.assertRaises(TypeError):

@@ -256,7 +256,7 @@ class TrekTest(unittest.TestCase):
             (("q",), ()), ("a", ()), (("a",), None)])
         trek = (("a", "b"), ("a", "c"))
         check_judge(self, lambda value: are_treks_apart(DIAMOND, x, y, value), [(trek,)], [
-            (), trek, [trek], (trek, trek), (list(trek),), ((("a", "b"),),), ((trek[0], trek[1], trek[1]),), ((trek[1], trek[0]),), ((("b",), ("c",)),),
+            (), trek, [trek], (trek, trek), (list(trek),), ((("a", "b"),),), ((trek[0], trek[1], trek[1]),), ((trek[1], trek[0]),), ((("b",), ("c",)),), ((("a",), ("a", "c")),), ((("a", "b"), ("a",)),),
             ((("b",), ("a", "c")),), ((("a", "b"), ("c",)),), ((["a", "b"], ("a", "c")),), ((("a", "b"), None),), ((None, ("a", "c")),), (("ab", "ac"),),
             ((("a", "b"), ("a", "c", "d")),), ((("a", "b"), ()),)])
         bowed = Diagram(("a", "b", "c"), (("a", "b"),), (("a", "c"),))

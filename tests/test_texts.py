@@ -115,7 +115,8 @@ class QuestionTextTest(unittest.TestCase):
             self.assertEqual(read_question(write_question(question)), question)
         told = {
             ("free", ("a", "b"), ("c",), ()): "free a+b c -", ("adjusts", ("x",), ("y",), ("u", "v2")): "adjusts x y u+v2", ("told", (), ("y", "z")): "told - y+z",
-            ("same", ()): "same -", ("same", (("a", "b"), ("c", "b"))): "same a>b,c>b", ("tells", ()): "tells", ("tells", ((), ("a",), ("a", "b"))): "tells - a a+b", ("pays", "d", "g", "w"): "pays d g w"}
+            ("same", ()): "same -", ("same", (("a", "b"), ("c", "b"))): "same a>b,c>b", ("tells", ()): "tells", ("tells", ((), ("a",), ("a", "b"))): "tells - a a+b", ("pays", "d", "g", "w"): "pays d g w",
+            ("pays", "deed", "gain9", "look"): "pays deed gain9 look"}
         for question, text in told.items():
             self.assertEqual((write_question(question), read_question(text)), (text, question))
         for text, question in (("tells b+a -", ("tells", (("a", "b"), ()))), ("free b+a d+c f+e", ("free", ("a", "b"), ("c", "d"), ("e", "f"))), ("same c>b,a>b", ("same", (("a", "b"), ("c", "b"))))):

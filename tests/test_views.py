@@ -183,6 +183,22 @@ class LiftedTest(unittest.TestCase):
         self.assertEqual((whole.sizes, whole.hidden), ({"a": 9, "b": 2, "c": 2}, {("a", "b"): ((1, 1),)}))
         self.assertEqual(set(whole.tables["b"].values()), {EVEN})
 
+    def test_one_cause_of_two_is_heeded(self):
+        diagram = Diagram(("a", "b", "c", "d", "e"), (("a", "d"), ("b", "e"), ("d", "c"), ("e", "c")))
+        base = projected(diagram, ("a", "b", "c"))
+        fair = {(): ((1, 3),) * 3}
+        for place, sizes in ((0, {"d": 3, "e": 2}), (1, {"d": 2, "e": 3})):
+            table = {row: ((1, 2), (1, 2)) if row[place] else ((1, 3), (2, 3)) for row in rows_of([3, 3])}
+            whole = self.check(diagram, ("a", "b", "c"), World(base, {"a": 3, "b": 3, "c": 2}, {}, {"a": fair, "b": fair, "c": table}), random.Random(5))
+            self.assertEqual(whole.sizes, {"a": 3, "b": 3, "c": 2, **sizes})
+
+    def test_just_as_many_rows_as_can_be(self):
+        diagram = Diagram(SIX, (("a", "e"), ("b", "f"), ("e", "c"), ("f", "d")))
+        base = projected(diagram, ("a", "b", "c", "d"))
+        shares = [tuple(((1, 8), (1, 8), (1, 4), (1, 2))[at:] + ((1, 8), (1, 8), (1, 4), (1, 2))[:at]) for at in range(4)]
+        tables = {t: {(): shares[0]} if t in "ab" else {(at,): shares[at] for at in range(4)} for t in "abcd"}
+        self.assertEqual(len(lifted(diagram, ("a", "b", "c", "d"), World(base, dict.fromkeys("abcd", 4), {}, tables))), 4096)
+
     def test_limits_in_their_order(self):
         def limit(diagram, seen, sizes, hidden, shares=None):
             base = projected(diagram, seen)
@@ -285,6 +301,10 @@ class HidingTest(unittest.TestCase):
         wrong = {0: (InvalidDiagram, NO_DIAGRAMS), 1: (InvalidLot, NO_LOTS), 2: (InvalidLot, NO_LOTS + ((), ("a",))), 3: (InvalidLot, NO_LOTS + (("a",), ("d",), ("b", "d")))}
         check_errors(self, hiding_lots, (DIAMOND, ("a",), ("d",), ("b",)), wrong)
         check_errors(self, is_hiding_lot, (DIAMOND, ("a",), ("d",), ("b",), None), wrong)
+        # Also where nothing need be hidden.
+        for may in (("x",), ("y",), ("x", "z"), ("y", "z")):
+            with self.assertRaises(InvalidLot):
+                hiding_lots(Diagram(("x", "y", "z"), (("x", "y"),), (("x", "y"),)), ("x",), ("y",), may)
 
 
 if __name__ == "__main__":

@@ -40,7 +40,8 @@ def _standing_behind(diagram, claim, ahead):
     question, verdict, _ = claim
     if not is_question(diagram, question):
         return ("fallen", None, None)
-    if ahead[1] == verdict and is_paper(diagram, question, verdict, ahead[2]):
+    # A paper for the other verdict is none for this one.
+    if is_paper(diagram, question, verdict, ahead[2]):
         return ("stands", verdict, ahead[2])
     found, paper = decide(diagram, question)
     return ("another" if found == verdict else "fallen", found, paper)
@@ -188,6 +189,9 @@ class Register:
         """The dict from the names to the editions and the claims."""
         return {name: self._studies[name][:2] for name in self._studies}
 
+    def _claims_of_all(self):
+        """The list of the claims of all studies."""
+        return [claim for name in self._studies for claim in self._studies[name][1]]
+
     def __str__(self):
-        many = sum([len(self._studies[name][1]) for name in self._studies])
-        return f"register of {len(self._studies)} studies, {many} claims"
+        return f"register of {len(self._studies)} studies, {len(self._claims_of_all())} claims"

@@ -45,10 +45,10 @@ def _gains_of(world, deed, gain, looks):
     at_deed, at_gain = places_in(lot, (deed, gain))
     gains = {}
     for row in tops:
-        brings = gains.setdefault(picked(row, places), [0 for _ in range(size)])
-        brings[row[at_deed]] = brings[row[at_deed]] + row[at_gain] * tops[row]
+        sums = gains.setdefault(picked(row, places), [0 for _ in range(size)])
+        sums[row[at_deed]] = sums[row[at_deed]] + row[at_gain] * tops[row]
     bottom = sum(tops.values())
-    return {row: [lowest(brings * size, bottom) for brings in gains[row]] for row in gains}
+    return {look: [lowest(top * size, bottom) for top in gains[look]] for look in gains}
 
 
 def _best_of(gains):

@@ -23,10 +23,9 @@ def cheapest_moves(given, wanted, costs):
         _add_step(room, steps, ((1, cell), _END), (wanted[cell][0] * (bottom // wanted[cell][1]), 0))
     _move_all(room, steps)
     moved = {(one, other): lowest(room[((1, other), (0, one))], bottom) for one, other in costs}
-    # Steps from and to the ends are used up; between the cells no ring of steps costs less than nothing.
-    between = {step: steps[step] for step in steps if room[step] > 0 and len(step[0]) == 2 and len(step[1]) == 2}
+    # Where all is moved at the least cost, no ring of steps with room costs less than nothing.
     cells = [(0, cell) for cell in given] + [(1, cell) for cell in wanted]
-    levels = _levels({cell: (0, 0) for cell in cells}, between)
+    levels = _levels({cell: (0, 0) for cell in cells}, {step: steps[step] for step in steps if room[step] > 0})
     return (moved, {cell: levels[cell][0] for cell in cells})
 
 

@@ -5,7 +5,7 @@ from seenanddone.errors import InvalidLot
 from seenanddone.same.pictures import need_picture, picture_of
 from seenanddone.same.sayings import can_turn, turned_about
 from seenanddone.ties.webs import Web, corner_order
-from seenanddone.web.checks import need_bowless, need_diagram
+from seenanddone.web.checks import need_diagram
 
 MAX_LOTS = 8
 
@@ -49,7 +49,7 @@ def unparted(picture, lots):
         return None
     tie = uncut[0]
     for member in picture.members():
-        if tie in member.arrows and can_turn(member, tie):
+        if can_turn(member, tie):
             return (tie, member, turned_about(member, tie))
     return None
 
@@ -79,7 +79,6 @@ def left_by(diagram, lots):
     """The ascending tuple of the members of the picture of a diagram that are alike with it under some lots."""
     need_diagram(diagram)
     _need_lots(lots, diagram.things)
-    need_bowless(diagram)
     members = list(picture_of(diagram).members())
     return tuple([member for member in members if _are_alike(diagram.arrows, member.arrows, lots)])
 
@@ -97,9 +96,10 @@ def _are_all_open(picture, lot):
 def greatest_clique(picture):
     """A lot, as great as can be, of things of which each two have an open tie."""
     need_picture(picture)
-    greatest = picture.things[:1]
+    greatest = ()
+    # The longer lots come later.
     for lot in lots_of(picture.things):
-        if len(lot) > len(greatest) and _are_all_open(picture, lot):
+        if _are_all_open(picture, lot):
             greatest = lot
     return greatest
 

@@ -223,7 +223,6 @@ def _is_trek(diagram, x, y, value):
 
 
 def _need_arrow(diagram, a, b, z):
-    need_diagram(diagram)
     _need_regression(diagram, a, b, z)
     if (a, b) not in diagram.arrows:
         raise Refused(("arrow",))

@@ -89,9 +89,9 @@ def _word_from(text, start, word):
 
 def _integer_at(text, start):
     """The integer that begins at an index, and the index behind it."""
-    first = start + 1 if stands_at(text, start, "-") else start
-    if first == start and stands_at(text, start, "0"):
+    if stands_at(text, start, "0"):
         return (0, start + 1)
+    first = start + 1 if stands_at(text, start, "-") else start
     end = need_sign(text, first, "123456789")
     while end < len(text) and text[end] in _DIGITS:
         if end == first + _MOST_DIGITS:
@@ -142,7 +142,7 @@ def _dict_at(text, start, deep, misplaced):
             end = need_sign(text, need_sign(text, end, ","), " ")
         spot = end
         key, end = _key_at(text, spot, deep)
-        if len(misplaced) == 0 and len(keys) > 0 and not _does_follow(keys[-1], key):
+        if len(keys) > 0 and not _does_follow(keys[-1], key):
             misplaced.append(spot)
         keys.append(key)
         end = need_sign(text, need_sign(text, end, ":"), " ")

@@ -24,8 +24,9 @@ from seenanddone.web.diagrams import Diagram
 from seenanddone.web.hiding import projected
 from seenanddone.world.worlds import even_world
 from tests.helper import lots_within
-from tests.test_greatest import ALL, FOURS, PAIRS, ROW, SECONDS, SIX, TEN, great_world
+from tests.test_greatest import ALL, FOURS, PAIRS, ROW, SIX, TEN, great_world
 
+SECONDS = 60
 BOTH = Diagram(SIX, PAIRS, PAIRS)
 
 

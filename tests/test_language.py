@@ -249,6 +249,41 @@ class LanguageTest(unittest.TestCase):
                         names |= {name for pair in pairs if names & set(pair) for name in pair}
                     self.assertFalse(names & changed_names(loop), (path, loop.lineno))
 
+    def test_what_is_iterated_at_once(self):
+        takes = ("list", "tuple", "dict", "sorted", "sum", "any", "all", "enumerate", "zip", "min", "max", "reversed")
+        for path, tree in self.trees.items():
+            held = set()
+            for node in ast.walk(tree):
+                if isinstance(node, (ast.For, ast.comprehension)):
+                    held.add(id(node.iter))
+                if isinstance(node, ast.Call) and isinstance(node.func, ast.Name) and node.func.id in takes:
+                    held.update(id(part) for part in node.args)
+            for node in ast.walk(tree):
+                if isinstance(node, ast.Call):
+                    word = getattr(node.func, "id", getattr(node.func, "attr", ""))
+                    if word in ("zip", "enumerate", "reversed", "range", "items", "keys", "values", "lots_of", "rows", "members"):
+                        self.assertIn(id(node), held, (path, node.lineno))
+
+    def test_double_underscore_methods_assign_nothing(self):
+        for path, node in self.functions():
+            if node.name in ("__eq__", "__str__", "__len__", "__contains__"):
+                self.assertFalse([part for part in ast.walk(node) if isinstance(part, (ast.Assign, ast.AugAssign))], path)
+                self.assertIsInstance(node.body[-1], ast.Return)
+
+    def test_names_of_methods_properties_and_attributes(self):
+        methods, properties, attributes = set(), set(), set()
+        for tree in self.trees.values():
+            for kind in [node for node in ast.walk(tree) if isinstance(node, ast.ClassDef)]:
+                for node in kind.body:
+                    if isinstance(node, ast.FunctionDef):
+                        (properties if node.decorator_list else methods).add(node.name)
+                attributes |= {part.attr for part in ast.walk(kind) if isinstance(part, ast.Attribute) and isinstance(part.ctx, ast.Store)}
+        self.assertFalse(methods & properties or methods & attributes or properties & attributes)
+        for path, tree in self.trees.items():
+            for node in ast.walk(tree):
+                if isinstance(node, ast.Attribute) and isinstance(node.ctx, ast.Load):
+                    self.assertIn(node.attr, methods | properties | attributes | METHODS, (path, node.lineno))
+
     def test_stars_in_calls(self):
         for path, tree in self.trees.items():
             for node in ast.walk(tree):

@@ -131,7 +131,7 @@ class LiftedTest(unittest.TestCase):
         return whole
 
     def test_seen_and_done_tables(self):
-        limits, lifts, with_bows = set(), 0, 0
+        lifts = with_bows = 0
         for seed, diagram, seen in cases():
             draw = random.Random(seed)
             world = some_world(projected(diagram, seen), seed, (2, 3) if len(seen) < 4 else (2,), (1, 2, 3) if len(seen) < 4 else (1, 2))
@@ -141,7 +141,6 @@ class LiftedTest(unittest.TestCase):
                 with self.assertRaises(TooMany) as caught:
                     lifted(diagram, seen, world)
                 self.assertEqual(caught.exception.limit, limit)
-                limits.add(limit)
                 continue
             whole = self.check(diagram, seen, world, draw)
             self.assertEqual((whole.sizes, {bow: len(shares) for bow, shares in whole.hidden.items()}), (sizes, bows))
@@ -226,6 +225,7 @@ class LiftedTest(unittest.TestCase):
         source = Diagram(("a", "b", "c", "d"), (("d", "a"), ("d", "b"), ("d", "c")))
         long = ((1, 1009), (1008, 1009))
         self.assertEqual(limit(source, ("a", "b", "c"), dict.fromkeys("abc", 2), 2, long), 1000000)
+        self.assertEqual(limit(source, ("a", "b", "c"), dict.fromkeys("abc", 9), 2, long), 4096)
         self.assertEqual(limit(source, ("a", "b", "c"), dict.fromkeys("abc", 2), 3, ((1, 1009), (8, 1009), (1000, 1009))), 16)
 
     def test_hidden_things_of_bows(self):

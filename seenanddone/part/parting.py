@@ -79,7 +79,8 @@ def left_by(diagram, lots):
     """The ascending tuple of the members of the picture of a diagram that are alike with it under some lots."""
     need_diagram(diagram)
     _need_lots(lots, diagram.things)
-    members = list(picture_of(diagram).members())
+    picture = picture_of(diagram)
+    members = list(picture.members())
     return tuple([member for member in members if _are_alike(diagram.arrows, member.arrows, lots)])
 
 
